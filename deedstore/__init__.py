@@ -1,0 +1,1 @@
+"""Deedstore: a store of tables with programs inside it."""
