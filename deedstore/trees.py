@@ -7,6 +7,9 @@ MOST_PARTS = 2000
 MOST_DEEP = 30
 MOST_DIGITS = 100
 
+# The lines of a log hold deeds that hold trees, so they may be deeper than trees.
+LINE_DEEP = 40
+
 # Longer integers are written in pieces of so many digits.
 PIECE_DIGITS = 64
 PIECE = 10 ** 64
@@ -81,7 +84,13 @@ def read_tree(text):
     """The tree with this text; NoText for all that is no text of a tree."""
     if not isinstance(text, str):
         raise NoText(0)
-    return Reader(text).whole()
+    return Reader(text, MOST_PARTS, MOST_DEEP).whole()
+
+
+def read_line(text):
+    """The tree with this text, the line of a log; NoText for all that is none."""
+    # No text has more parts than characters.
+    return Reader(text, len(text) + 1, LINE_DEEP).whole()
 
 
 class Reader:
@@ -91,8 +100,10 @@ class Reader:
     the index at which it has to stop is the index of NoText.
     """
 
-    def __init__(self, text):
+    def __init__(self, text, most_parts, most_deep):
         self.text = text
+        self.most_parts = most_parts
+        self.most_deep = most_deep
         self.at = 0
         self.many = 0
         # The parts so far of each tuple whose end is still to come, the innermost last.
@@ -110,7 +121,7 @@ class Reader:
 
     def begin_part(self):
         """Read a part that is no tuple, or the bracket with which a tuple begins."""
-        if self.many == MOST_PARTS or len(self.unclosed) == MOST_DEEP:
+        if self.many == self.most_parts or len(self.unclosed) == self.most_deep:
             raise NoText(self.at)
         self.many += 1
         sign = self.following()
@@ -140,7 +151,7 @@ class Reader:
             return
         if parts:
             # Behind a space a part must come, so the space is wrong if there may be none.
-            if self.many == MOST_PARTS:
+            if self.many == self.most_parts:
                 raise NoText(self.at)
             self.spell(" ")
         self.begin_part()

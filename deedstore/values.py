@@ -18,6 +18,11 @@ def is_word(x):
     return all(["a" <= letter <= "z" for letter in x])
 
 
+def is_integer(x):
+    """Whether x is an int that is not a bool."""
+    return isinstance(x, int) and not isinstance(x, bool)
+
+
 def is_value(x):
     """Whether x is an integer or a string within the bounds, a bool or None."""
     if x is None or isinstance(x, bool):
