@@ -154,15 +154,14 @@ def _check_row(core, order, row):
 
 def _write(core, order, change):
     table = order.table.word
-    if change.new is None:
-        core.take_row(table, change.which)
-        return
     if change.old is None:
-        change.which = core.put_row(table, change.new)
+        core.put_row(table, change.new)
+    elif change.new is None:
+        core.take_row(table, change.which)
     else:
         core.change_row(table, change.which, change.new)
-    if order.cursor is not None:
-        order.cursor.note_given(core.versions[change.which])
+        if order.cursor is not None:
+            order.cursor.note_given(core.versions[change.which])
 
 
 def _check_key_values(core, table, changes):

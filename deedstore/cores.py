@@ -78,10 +78,8 @@ class Core:
         self.tell(("deed", deed))
 
     def put_row(self, table, row):
-        """Put a row under the next number, which is returned."""
-        which = self.next_number
-        self.put_at(table, which, row)
-        return which
+        """Put a row under the next number."""
+        self.put_at(table, self.next_number, row)
 
     def put_at(self, table, which, row):
         """Put a row under a number that no row has."""

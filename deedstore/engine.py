@@ -14,13 +14,10 @@ MOST_WITHIN = 8
 class Task:
     """Something that runs.
 
-    The machine lets the topmost task go on until it is finished or has put
-    another one above itself. Where a way leads out, tasks are left.
+    The machine lets the topmost task go on (each class below has a go_on) until
+    it is finished or has put another one above itself. Where a way leads out,
+    tasks are left.
     """
-
-    def go_on(self, machine):
-        """Do the next part of the task."""
-        machine.finish(None)
 
     def leave(self, machine):
         """End the task by the way that leads out, or stop that way here."""

@@ -154,7 +154,8 @@ def _applied(o, a, b):
 
 def _joined_truth(deciding, a, b):
     """The value of and, or; deciding is the truth that decides it, whatever the other part is."""
-    if a == deciding or b == deciding:
+    # If the first part had decided it, the second one had not been evaluated.
+    if b == deciding:
         return deciding
     return None if a is None or b is None else not deciding
 

@@ -137,8 +137,6 @@ def _reference_fits(plans, reference, columns):
 def _view_fits(plans, tree):
     _, table, pairs, c, _ = tree
     kinds = _kinds_of_columns(plans, table, tree[0])
-    if kinds is None:
-        return False
     columns = [column for _, column in pairs]
     if not _are_different([word for word, _ in pairs]) or not _are_columns(columns, kinds):
         return False
@@ -148,16 +146,15 @@ def _view_fits(plans, tree):
 def _kinds_of_columns(plans, word, view):
     """The kinds of the columns of the table or view under this view.
 
-    None if it is not there, or if the views under it go round. (If it is there,
-    but not all under it, its columns are of no kind: another view does not fit.)
+    There are none if it is not there, or if the views under it go round. (If it is
+    there, but not all under it, its columns are of no kind: another view does not
+    fit.)
     """
-    if word not in plans:
-        return None
     over = []
     passed = {view: True}
     while word in plans and plans[word][0] == "view":
         if word in passed:
-            return None
+            return {}
         passed[word] = True
         over.append(plans[word][1])
         word = plans[word][1][1]

@@ -35,7 +35,10 @@ class Cursor:
         self.given[version] = True
 
     def has_known(self, version):
-        """Whether the row that was fetched last had this version, or its changeat gave it."""
+        """Whether the row that was fetched last had this version, or its changeat gave it.
+
+        None, for a row that is not there, is no version.
+        """
         return version == self.versions[self.fetched] or version in self.given
 
 

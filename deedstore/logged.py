@@ -27,7 +27,7 @@ class LoggedStore(Store):
     def joined(old, new):
         """The new log if its first commit is whole and right, otherwise the old one."""
         recovery = Recovery(Core())
-        recovery.read(new, True)
+        recovery.read(new)
         return old if recovery.last is None else new
 
     @property

@@ -94,12 +94,12 @@ class Recovery:
         # The next number of a row without those of the commit that is being read.
         self.next_number = 0
 
-    def read(self, text, only_first):
-        """Read up to the first line that is cut or wrong, or to the end of the first commit."""
+    def read(self, text):
+        """Read up to the first line that is cut or wrong."""
         lines = text.split("\n")
         # What stands behind the last newline is no whole line.
         for line in lines[:-1]:
-            if only_first and self.last is not None or not self.takes(line):
+            if not self.takes(line):
                 break
         if self.present is not None:
             core = self.core
@@ -184,7 +184,7 @@ def recover(core, text):
     # What is read is written already.
     core.scribe = None
     recovery = Recovery(core)
-    recovery.read(text, False)
+    recovery.read(text)
     scribe.lines = list(recovery.counted)
     scribe.lots = dict(recovery.lots)
     core.scribe = scribe

@@ -8,8 +8,8 @@ from deedstore.evaluations import evaluate, shown_rows, table_rows, value_of
 class Change:
     """A change of a row: its number, the old and the new row.
 
-    A row that is put has no number before it is written and no old row; a row
-    that is taken has no new one.
+    A row that is put has no number and no old row, a row that is taken has no
+    new one.
     """
 
     def __init__(self, which, old, new):

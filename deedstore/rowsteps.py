@@ -140,8 +140,7 @@ def _fetched_cursor(core, frame, word):
     cursor = _open_cursor(frame, word)
     if cursor.fetched is None:
         raise Trouble("cursor", (word,))
-    version = core.versions.get(cursor.fetched)
-    if version is None or not cursor.has_known(version):
+    if not cursor.has_known(core.versions.get(cursor.fetched)):
         raise Trouble("gone", (core.catalogue.table_or_view(cursor.table).base,))
     return cursor
 

@@ -169,7 +169,7 @@ def _begin_procedure(machine, frame, info, args, values):
 
 def _doby(machine, frame, tree, values):
     catalogue = machine.core.catalogue
-    info = None if values[0] is None else catalogue.program_info(values[0], "procedure")
+    info = catalogue.program_info(values[0], "procedure")
     if info is None or not _all_fit(catalogue, frame, tree[2], info.tree[2]):
         raise Trouble("noproc", ())
     _begin_procedure(machine, frame, info, tree[2], values[1:])

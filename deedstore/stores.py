@@ -227,12 +227,8 @@ def _have_same_things(core, other):
     infos, others = core.catalogue.infos, other.catalogue.infos
     if sorted(infos) != sorted(others):
         return False
-    return all([_is_same_thing(infos[word], others[word]) for word in infos])
-
-
-def _is_same_thing(info, other):
     # By their texts, as True is no integer, though Python holds it equal to 1.
-    return info.thing_kind == other.thing_kind and write_tree(info.tree) == write_tree(other.tree)
+    return all([write_tree(infos[word].tree) == write_tree(others[word].tree) for word in infos])
 
 
 def _shown(core, word):

@@ -37,9 +37,6 @@ class Times:
     def begin_anew(self, core, deeds):
         """Note the present store as what its last commit made with these deeds."""
         self.moments = {}
-        self.is_new = False
-        self.causes = {}
-        self.last_rows = {}
         self.note_commit(core, core.last_commit, deeds)
 
     def present_causes(self, core, which):

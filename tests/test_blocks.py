@@ -2,8 +2,9 @@
 
 from deedstore.machines import run
 from tests.build import (
-    FALSE, NULL, TRUE, StoreTest, begun, block, col, column, do, equal, function, handler, op, plus,
-    procedure, programs, put, raise_, set_, sets, table, tables, trigger, value, var, variable, view,
+    FALSE, NULL, TRUE, StoreTest, begun, block, col, column, do, equal, function, handler, op,
+    plus, procedure, programs, put, raise_, set_, sets, table, trigger, value, var, variable,
+    view,
 )
 
 OUT = (("n", "int", "out"), ("w", "text", "out"))
@@ -57,6 +58,19 @@ class VariableTest(RunTest):
                       handlers=(handler("division", set_("n", plus(var("a"), 1)), ("if", ((("null", var("c")), (say("h"),)),), ())),),
                       last=(say("l"),))
         self.assertEqual(self.results(wrong), (6, "hl"))
+
+
+    def test_a_signal_in_their_expressions_that_goes_outward(self):
+        wrong = block(say("x"), variables=(variable("a", "int", op("div", 1, 0)), variable("b", "int", ("call", "f", ()))),
+                      handlers=(handler("never"),), last=(say("l"),))
+        f = programs(function("f", ("return", value(1))))
+        self.said("lh", block(wrong, say("y"), handlers=(handler("", say("h")),)), things=f)
+        self.said("lh", block(block(*wrong[3], variables=wrong[2], last=wrong[5]), handlers=(handler("", say("h")),)), things=f)
+
+    def test_those_without_expressions_between_others(self):
+        given = (variable("a"), variable("b"), variable("c", "int", 5), variable("d"), variable("e", "int", plus(var("c"), 1)))
+        self.assertEqual(self.results(set_("n", var("e")), variables=given)[0], 6)
+        self.assertEqual(self.results(set_("n", var("c")), variables=given[1:3])[0], 5)
 
 
 class BranchTest(RunTest):

@@ -7,10 +7,10 @@ import time
 from deedstore.errors import Stale
 from deedstore.logged import LoggedTimedStore
 from deedstore.machines import run
-from deedstore.stores import Store
 from tests.build import (
-    FALSE, NULL, TRUE, StoreTest, begun, block, col, column, do, equal, function, handler, op, plus,
-    procedure, programs, put, raise_, set_, sets, table, tables, trigger, value, var, variable, view,
+    FALSE, NULL, TRUE, StoreTest, begun, block, col, column, equal, function, handler, op, plus,
+    procedure, programs, put, raise_, set_, sets, table, tables, trigger, value, var, variable,
+    view,
 )
 
 LEVELS = 150

@@ -4,9 +4,8 @@ from deedstore.errors import BadArgs, Busy, NoTransaction, Raised, Unknown
 from deedstore.machines import Outcome, run
 from deedstore.stores import Store
 from tests.build import (
-    NULL, TRUE, StoreTest, begun, block, col, column, do, equal, function, handler, op, plus,
-    procedure, programs, put, raise_, set_, sets, table, tables, trigger, unchanged, value, var,
-    variable,
+    FALSE, NULL, TRUE, StoreTest, begun, block, col, do, equal, function, handler, op, plus, procedure,
+    programs, put, raise_, set_, sets, table, tables, trigger, unchanged, value, var, variable,
 )
 
 T = table("t", "a")
@@ -159,6 +158,102 @@ def raise_and_keep():
     return set_("b", plus(var("b"), var("i")))
 
 
+class CallTest(StoreTest):
+    """Functions that are called wherever an expression stands."""
+
+    def outcome(self, is_called, make):
+        """What a call of p does, with the parts that make wraps as calls or as they are."""
+        def wrapped(e, kind="int"):
+            e = e if isinstance(e, tuple) else value(e)
+            return ("call", {"int": "same", "text": "sametext", "truth": "sametrue"}[kind], (e,)) if is_called else e
+
+        def same(word, kind):
+            return function(word, ("if", ((TRUE, (("return", var("x")),)),), ()), kind=kind, params=(("x", kind, "in"),))
+
+        words = tuple((word, "int", "out") for word in "nm")
+        variables = (variable("r", ("row", "t")), variable("c", ("cursor", "t")), variable("f", "truth"), variable("i", "int", 0))
+        store = begun(*tables(table("t", "a", "b"), table("u", "x", "y")), *programs(
+            same("same", "int"), same("sametext", "text"), same("sametrue", "truth"),
+            procedure("q", set_("b", plus(var("a"), var("b"))), params=(("a", "int", "in"), ("b", "int", "both"))),
+            procedure("p", *make(wrapped), params=words, variables=variables)))
+        for a in (1, 2, 3):
+            store.put("t", sets(a=a, b=10 * a))
+        try:
+            found = run(store, "p").results
+        except Raised as e:
+            found = (e.word, e.details, e.place)
+        return found, [list(store.rows(word)) for word in "tu"]
+
+    def does(self, wanted, make):
+        """The call ends so, whether functions are called or not; what the rows are then."""
+        for is_called in (False, True):
+            found, rows = self.outcome(is_called, make)
+            self.assertEqual(found, wanted)
+        self.assertEqual(rows, self.outcome(False, make)[1])
+        return [[row for _, row in part] for part in rows]
+
+    def test_conditions_of_if(self):
+        def make(w):
+            return (
+                ("if", ((w(FALSE, "truth"), (set_("n", 1),)), (w(NULL, "truth"), (set_("n", 2),)),
+                        (w(TRUE, "truth"), (set_("n", 3),))), (set_("n", 4),)),
+                ("if", ((w(FALSE, "truth"), ()), (equal(w(2), w(3)), ())), (set_("m", 5),)))
+
+        self.does((3, 5), make)
+
+    def test_conditions_of_loops(self):
+        def make(w):
+            add = set_("i", plus(w(var("i")), w(1)))
+            return (
+                ("while", None, w(op("<", w(var("i")), 3), "truth"), (add, set_("n", var("i")))), set_("m", 0),
+                ("each", None, "r", "t", op("<", w(1), w(col("a"))), (set_("m", plus(var("m"), ("field", "r", "b"))),)))
+
+        self.does((3, 50), make)
+
+    def test_get_and_open(self):
+        def make(w):
+            return (
+                ("get", "r", "t", equal(w(col("a")), w(2))), set_("n", ("field", "r", "b")),
+                ("open", "c", "t", w(op("<", 1, w(col("a"))), "truth")), ("fetch", "c", "r", "f"), ("fetch", "c", "r", "f"),
+                set_("m", ("field", "r", "b")), ("changeat", "c", sets(a=plus(w(col("a")), w(5)), b=w(0))))
+
+        self.assertEqual(self.does((20, 30), make)[0], [(1, 10), (2, 20), (8, 0)])
+
+    def test_statements_on_rows(self):
+        def make(w):
+            return (
+                ("put", "u", sets(x=w(1), y=plus(w(2), w(3))), "n"), ("fill", "u", sets(x=w(col("a")), y=w(col("b"))), "t",
+                                                                       w(op("<", w(col("a")), 3), "truth"), "m"),
+                ("change", "t", sets(a=w(plus(col("a"), 1)), b=w(NULL)), op("<", w(1), col("a")), "n"),
+                ("take", "u", equal(w(col("x")), 1), "m"))
+
+        self.assertEqual(self.does((2, 2), make), [[(1, 10), (3, None), (4, None)], [(2, 20)]])
+
+    def test_variables_set_and_args(self):
+        def make(w):
+            inner = block(set_("n", plus(var("a"), var("b"))), variables=(
+                variable("a", "int", w(4)), variable("z"), variable("b", "int", op("*", w(var("a")), w(10)))))
+            return (inner, set_("m", w(w(6))), do("q", w(w(1)), var("m")), ("doby", w(op("join", "q", ""), "text"), (w(2), var("m"))))
+
+        self.does((44, 9), make)
+
+    def test_raise_and_over_rows(self):
+        def make(w):
+            total = ("sum", "t", w(col("b")), op("<", w(col("a")), 3))
+            return (raise_("e", w(total), w("x", "text"), ("count", "t", equal(w(("count", "u", TRUE)), 0))),)
+
+        self.does(("e", (30, "x", 3), (0, 0)), make)
+
+    def test_parts_of_operations(self):
+        def make(w):
+            return (
+                set_("n", ("case", w(TRUE, "truth"), op("-", w(10), op("mod", w(7), w(4))), w(0))),
+                ("if", ((op("or", op("and", w(FALSE, "truth"), equal(w(op("div", 1, 0)), 1)), ("not", ("null", w(NULL)))), ()),
+                        (op("or", w(NULL, "truth"), ("null", w(NULL))), (set_("m", 1),))), ()))
+
+        self.does((7, 1), make)
+
+
 class DobyTest(StoreTest):
     def doby(self, e, *args):
         params = (("i", "int", "in"), ("o", "text", "out"), ("b", "int", "both"))
@@ -199,6 +294,13 @@ class DobyTest(StoreTest):
         for args in ((NULL, var("c")), (var("ru"), var("c")), (var("r"), var("ct")), (var("c"), var("r")), (var("r"), NULL)):
             self.has_no_procedure(value("rows"), *args)
         self.has_no_procedure(value("none"), NULL)
+
+    def test_in_a_handler(self):
+        q = procedure("q", put("t", a=var("a")), params=(("a", "int", "in"), ("b", "text", "in")))
+        by = ("doby", ("word",), (("told", 0, "int"), op("join", ("word",), "")))
+        store = begun(("table", T), *programs(q, procedure("p", raise_("q", 5), handlers=(handler("", by),))))
+        run(store, "p")
+        self.has_rows(store, "t", (5,))
 
     def test_args_are_evaluated_first(self):
         error = self.raised(self.doby, value("zz"), op("div", 1, 0))
@@ -259,6 +361,37 @@ class RecursionTest(StoreTest):
         error = self.raised(run, store, "two")
         self.assertEqual((error.word, error.program, error.place, error.stack), (
             "depth", "go", (0, 0), (("two", (0, 0)), ("one", (0, 0)))))
+
+
+    def test_what_has_ended_does_not_count(self):
+        # Cascades, triggers, functions and procedures run one after the other, then deep ones.
+        p = table("p", "id", keys=(("id",),))
+        c = table("c", "of", references=(("r", ("of",), "p", "cascade", False), ("q", ("of",), "p", "null", False)))
+        down = function("down", ("if", ((equal(var("n"), 1), (("return", value(0)),)),), ()),
+                        ("return", ("call", "down", (op("-", var("n"), 1),))), params=(("n", "int", "in"),))
+        deep = ("if", ((op("<", ("field", "old", "id"), 9), (set_("n", ("call", "down", (("field", "old", "id"),))),)),), ())
+        failing = block(raise_("e"), handlers=(handler("e", raise_("f")),))
+        store = begun(*tables(p, c, T), *programs(
+            down, procedure("e", failing), procedure("none"), trigger("a", "c", "after", "take"), trigger("b", "p", "after", "take"),
+            trigger("g", "p", "after", "take", deep, variables=(variable("n"),)),
+            procedure("go", block(do("e"), handlers=(handler("f"),)), do("none"), put("t", a=("call", "down", (value(8),))),
+                      ("take", "p", TRUE, None))))
+        for many, wanted in ((7, None), (8, "depth")):
+            store.put("p", sets(id=9))
+            store.put("p", sets(id=many))
+            for k in (9, many):
+                store.put("c", sets(of=k))
+            before = unchanged(store)[:2]
+            if wanted is None:
+                self.assertEqual(store.take("p", TRUE), 2)
+                store.undo(store.mark())
+                for k in (9, many):
+                    store.put("p", sets(id=k))
+                run(store, "go")
+            else:
+                self.assertEqual(self.raised(store.take, "p", TRUE).word, wanted)
+                self.assertEqual(self.raised(run, store, "go").word, wanted)
+                self.assertEqual(unchanged(store)[:2], before)
 
 
 class MostTest(StoreTest):

@@ -1,9 +1,10 @@
 """Point 50: cursors, over tables and views, over rows that change, are taken and come back."""
 
+from deedstore.logged import LoggedTimedStore
 from deedstore.machines import run
 from tests.build import (
-    FALSE, NULL, TRUE, StoreTest, begun, block, col, column, do, equal, function, handler, op, plus,
-    procedure, programs, put, raise_, set_, sets, table, tables, trigger, value, var, variable, view,
+    FALSE, NULL, TRUE, StoreTest, begun, block, col, do, equal, function, handler, op, plus,
+    procedure, programs, put, raise_, set_, sets, table, trigger, value, var, variable, view,
 )
 
 ROW, CURSOR = ("row", "t"), ("cursor", "t")
@@ -114,6 +115,17 @@ class AtTest(CursorTest):
         store = self.store_with(*programs(procedure("p", OPEN, FETCH, ("take", "t", TRUE, None), ("takeat", "c"), variables=VARIABLES)))
         error = self.raised(run, store, "p")
         self.assertEqual((error.word, error.details, error.place), ("gone", ("t",), (0, 3)))
+
+    def test_gone_in_stores_that_were_made_of_others(self):
+        p = procedure("p", OPEN, FETCH, ("change", "t", sets(b=7), TRUE, None), ("takeat", "c"), variables=VARIABLES)
+        store = LoggedTimedStore.of(("table", table("t", "a", "b")), *programs(p))
+        store.begin()
+        for a in (1, 2, 3):
+            store.put("t", sets(a=a))
+        store.commit()
+        for other in (store.copy(), store.behind(2), LoggedTimedStore.recovered(store.log)):
+            other.begin()
+            self.assertEqual(self.raised(run, other, "p").word, "gone")
 
     def test_a_change_by_another_cursor(self):
         other = (("open", "d", "t", TRUE), ("fetch", "d", "r", "f"), ("changeat", "d", sets(b=5)))

@@ -80,5 +80,7 @@ class StraightTest(StoreTest):
             ((number, ("mark", 0), put, number, ("mark", 1), number, take, ("undo", 0), ("undo", 0), put), (number, number, number, put)),
             ((("mark", 2), put, ("mark", 3), take, ("undo", 3), ("mark", 4), ("undo", 2), put, ("mark", 3), take, ("undo", 3)), (put,)),
             ((("mark", 0), put, ("free", 0), ("mark", 0), take, ("undo", 0)), (put,)),
+            ((("mark", 0), ("mark", 1), ("undo", 0), put, ("mark", 1), take, ("undo", 1)), (put,)),
+            ((("mark", 0), ("mark", 1), ("free", 1), put, ("mark", 1), take, ("undo", 1)), (put,)),
         ):
             self.assertEqual(straight(history=history), wanted)

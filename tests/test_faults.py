@@ -3,7 +3,7 @@
 from deedstore.errors import Stale
 from deedstore.machines import run
 from tests.build import (
-    NULL, TRUE, StoreTest, begun, block, col, column, do, equal, function, handler, op, plus,
+    NULL, TRUE, StoreTest, begun, block, col, column, do, equal, function, handler, plus,
     procedure, programs, put, raise_, set_, sets, table, tables, trigger, unchanged, value, var,
     variable, view,
 )
@@ -378,6 +378,7 @@ class QuietTest(FaultTest):
             self.is_stale((0, 0), ("quiet", "number"), function("x", ("return", e)))
             self.is_stale((0, 0), ("quiet", "number"), trigger("x", "t", "before", "put", ("new", "a", e)))
         self.is_stale((0, 0), ("name", "zz"), function("x", ("return", plus(var("zz"), ("number", "s")))))
+        self.is_stale((0, 0), ("quiet", "number"), function("x", ("return", ("sum", "t", ("number", "s"), TRUE))))
 
     def test_what_they_may(self):
         may = (set_("n", ("count", "t", TRUE)), ("open", "c", "t", TRUE), ("fetch", "c", "r", "f"), ("close", "c"),
@@ -400,6 +401,11 @@ class HandlerTest(FaultTest):
         self.is_stale((0, 0, 2, 0), ("handler", "again"), procedure("x", guard))
         guard = block(("again",), handlers=(handler(""),))
         self.is_stale((0, 0, 0, 0), ("handler", "again"), procedure("x", guard))
+
+    def test_within_what_goes_through_rows(self):
+        told = ("count", "t", equal(col("a"), ("told", 0, "int")))
+        self.has_fault(("handler", "told"), set_("n", told))
+        self.has_none(block(raise_("e", 5), handlers=(handler("", set_("n", told)),)))
 
     def test_within_handlers(self):
         deep = block(("if", ((equal(("word",), "e"), ()),), ()), variables=(variable("q", "text", ("word",)),),

@@ -6,8 +6,8 @@ from deedstore.machines import run
 from deedstore.stores import Store
 from deedstore.trees import read_tree, write_tree
 from tests.build import (
-    NULL, TRUE, StoreTest, begun, block, col, column, do, equal, handler, op, plus, procedure,
-    programs, put, raise_, sets, table, tables, trigger, unchanged, value, view,
+    NULL, TRUE, StoreTest, block, col, column, equal, handler, op, procedure, programs, put,
+    raise_, sets, table, view,
 )
 
 T = table("t", "a", column("b", "text"))
@@ -437,6 +437,8 @@ class WrongTest(StoreTest):
                      '("begin" "3")', '("begin" 3 3)', '(("begin") 3)', '("sequence" ("r" 1 0))', '("sequence" ("r" 1))',
                      '("sequence" "r" 1 1)', '("sequence" ("R" 1 1))', '("lot" "s" 1' + "0" * 31 + ")", '("lot" "s" 08)'):
             self.ends_at(line)
+        for line in (("sequence", ("r", 1, 1), 1), ("none", ("r", 1, 1)), ("none", "s", 8), ("lot", "s", 8, None), ("none", 3)):
+            self.ends_at(line)
 
     def test_sequences_and_lots(self):
         self.ends_at(("sequence", S))
@@ -453,6 +455,9 @@ class WrongTest(StoreTest):
         for n in (0, 1, 2, 4, -1, 10 ** 40):
             self.ends_at(*commit(n))
         self.goes_on(*commit(3), *commit(4))
+        first = commit(1)
+        total = read_tree(first[-1])[2]
+        self.assertEqual(LoggedStore.recovered(text_of(first[0], ("commit", True, total))).log, "")
         for n in (0, 1, 7, 10 ** 40):
             store = LoggedStore.recovered(text_of(*commit(n), *commit(n + 1), *commit(n + 1)))
             self.assertEqual((store.commits, store.log), (n + 1, text_of(*commit(n), *commit(n + 1))))
@@ -467,6 +472,9 @@ class WrongTest(StoreTest):
         for wrong in (total + 1, -total, total + 1000000007, 0, True, None, str(total)):
             self.ends_at(*lines[:-1], ("commit", 3, wrong))
         self.ends_at(*lines[:-1], ("commit", 3))
+        # A wrong end is no deed, whatever the sum of all says.
+        wrong = lines[:-1] + [write_tree(("commit", 3, total + 1))]
+        self.ends_at(*wrong, ("commit", 3, checksum(wrong)))
         self.ends_at(*lines[:-1], ("commit", 3, total, total))
 
     def test_deeds_that_cannot_be_done(self):
@@ -482,10 +490,13 @@ class WrongTest(StoreTest):
             ("make", (("program", procedure("t")),)), ("make", ("table", T)), ("drop", ()), ("drop", ("z",)), ("drop", ("s",)),
             ("drop", ("t",)), ("drop", ("v", "t")), ("drop", "v"), ("drop", ("v", "v")), ("number", "s", 1), ("mark", 0), ("undo", 0),
             ("free", 0), ("sequence", ("r", 1, 1)), ("lot", "s", 8), ("begin", 3), ("begin", 4), ("none",), (), 5, ("put",), (5,),
+            ("none", ("v",)), ("take", ("v",)), ("none", (("table", table("w", "a")),)), ("none", "t", 4, row), ("none", "t", 4),
         ):
             self.ends_at(*commit(3, deed))
             self.ends_at(*commit(3, ("put", "t", 77, row), ("make", (("table", table("w", "a")),)), deed))
             self.ends_at(*commit(3, ("put", "t", 77, row), deed)[:-1])
+        texts = ("make", (("table", table("w", column("a", "text"), column("b", "text"))),))
+        self.ends_at(*commit(3, texts, ("put", "w", 5, "ab")))
 
     def test_deeds_that_can_be_done(self):
         store = self.goes_on(*commit(3, ("take", "t", 4), ("put", "t", 4, (None, None)), ("put", "t", 10 ** 40, (1, "x")),
@@ -600,6 +611,13 @@ class CheckpointTest(StoreTest):
         self.fails(InTransaction, (), store.checkpoint)
         store.core.standing = True
         self.fails(Busy, (), store.checkpoint)
+
+
+    def test_of_a_recovered_log(self):
+        store = full_log()
+        again = LoggedStore.recovered(store.log)
+        self.assertEqual(again.checkpoint(), store.checkpoint())
+        self.assertIn('("lot" "s" 8)', again.log)
 
 
 class JoinedTest(StoreTest):

@@ -2,9 +2,7 @@
 
 from deedstore.errors import NoMark, NoTransaction, Unknown
 from deedstore.stores import Store
-from tests.build import (
-    TRUE, StoreTest, begun, col, plus, procedure, sets, table, unchanged, value, view,
-)
+from tests.build import TRUE, StoreTest, begun, col, plus, procedure, sets, table, unchanged, view
 
 T = table("t", "a")
 

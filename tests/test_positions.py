@@ -3,8 +3,8 @@
 from deedstore.errors import Raised
 from deedstore.machines import run
 from tests.build import (
-    FALSE, NULL, TRUE, StoreTest, begun, block, col, column, do, equal, function, handler, op, plus,
-    procedure, programs, put, raise_, set_, sets, table, tables, trigger, value, var, variable,
+    FALSE, NULL, TRUE, StoreTest, begun, block, col, function, handler, procedure, programs, put,
+    raise_, set_, sets, table, tables, trigger, value, var, variable,
 )
 
 VARIABLES = (variable("n"), variable("f", "truth"), variable("r", ("row", "t")), variable("c", ("cursor", "t")))

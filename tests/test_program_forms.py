@@ -166,6 +166,8 @@ class FormTest(StoreTest):
         for x in (p[:3], p + (1,), ("Procedure",) + p[1:], p[:3] + (None,), p[:3] + (("look",),), p[:3] + ((),),
                   p[:3] + (list(EMPTY),), p[:2] + (None, EMPTY), p[:2] + ([], EMPTY)):
             self.is_none(x)
+        self.is_none(("procedure", "p", (), EMPTY, EMPTY))
+        self.is_none(("procedure", "p", EMPTY))
         for word in NOT_WORDS:
             self.is_none(("procedure", word, (), EMPTY), None)
 
@@ -192,6 +194,8 @@ class FormTest(StoreTest):
             self.is_none(function("p", kind=kind))
         self.is_none(function("p")[:4])
         self.is_none(function("p") + (1,))
+        self.is_none(("function", "p", (), "int", EMPTY, EMPTY))
+        self.is_none(("function", "p", (), EMPTY))
 
     def test_triggers(self):
         for when in ("before", "after"):
@@ -202,6 +206,9 @@ class FormTest(StoreTest):
             for wrong in wrongs:
                 x = trigger("p", "t", "after", "put")
                 self.is_none(x[:at] + (wrong,) + x[at + 1:])
+        self.is_none(("none", "p", "t", "before", "put", EMPTY))
+        self.is_none(trigger("p", "t", "after", "put") + (EMPTY,))
+        self.is_none(("trigger", "p", "t", "after", EMPTY))
         self.is_none(trigger("p", "t", "after", "put")[:5])
         self.is_none(trigger("p", "t", "after", "put") + (1,))
 

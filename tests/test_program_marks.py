@@ -2,8 +2,8 @@
 
 from deedstore.machines import run
 from tests.build import (
-    NULL, TRUE, StoreTest, begun, block, col, do, equal, function, handler, op, plus, procedure,
-    programs, put, raise_, set_, sets, table, tables, trigger, value, var, variable,
+    TRUE, StoreTest, begun, block, do, equal, handler, op, procedure, programs, put, raise_, set_,
+    table, trigger, variable,
 )
 
 T = ("table", table("t", "a"))

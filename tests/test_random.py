@@ -1,129 +1,50 @@
-"""Points 4, 31, 52 and 61 over many programs that are put together at random."""
+"""Points 4, 31, 44 to 52 and 61 over many programs that are put together at random."""
 
-import random
 import unittest
 
 from deedstore.deeds import straight_deeds
 from deedstore.errors import Raised, Stale
 from deedstore.logged import LoggedTimedStore
 from deedstore.machines import run
-from deedstore.trees import is_bounded
-from tests.build import (
-    FALSE, NULL, TRUE, block, col, column, equal, function, op, plus, procedure, programs, sets,
-    table, tables, trigger, value, var, variable, view,
-)
+from tests.build import TRUE, begun, equal, op, plus, procedure, programs, sets, trigger, value, var
+from tests.makers import VARIABLES, PlainMaker, StoreMaker
+from tests.plain import Plain
 from tests.replay import Replay
 from tests.test_traces import history_of
 
-T = table("t", column("a", default=("number", "s")), "b", keys=(("a",),), checks=(("c", op("<", col("a"), 60)),))
-U = table("u", column("of"), column("x", default=0), references=(("r", ("of",), "t", "cascade", False),
-                                                                  ("n", ("x",), "t", "null", True)))
-V = view("v", "t", (("q", "a"), ("z", "b")), op("<", col("a"), 12), True)
-VARIABLES = (variable("n", "int", 1), variable("w", "text"), variable("f", "truth"), variable("r", ("row", "t")),
-             variable("c", ("cursor", "t")))
-WORDS = ("e", "key", "refer", "division", "cursor", "gone", "mark", "depth", "check", "view", "norow", "manyrows")
+
+def outcome_of(store, word):
+    """How a call ends: its fields, its history and its trace."""
+    try:
+        outcome = run(store, word, most=300)
+    except Raised as e:
+        return ("raised", e.word, e.details, e.program, e.place, e.stack, e.causes, e.history, e.trace)
+    except Stale as e:
+        return ("stale", e.fault, e.word, e.place)
+    return ("ended", "well", outcome.results, outcome.history, outcome.trace)
 
 
-class Maker:
-    """Makes statements at random that have no fault."""
+class HistoryTest(unittest.TestCase):
+    """The history of a call makes the store behind it, and the log the store behind the commit."""
 
-    def __init__(self, seed):
-        self.random = random.Random(seed)
+    def store(self, seed):
+        maker = StoreMaker(seed)
+        calls = ("if", ((op("<", ("count", "t", TRUE), 15), maker.statements(2)),), ())
+        event = maker.random.choice(("put", "change", "take"))
+        p = maker.bounded(lambda: procedure("p", *maker.statements(3), *maker.statements(3), variables=VARIABLES))
+        return LoggedTimedStore.of(*maker.THINGS, *programs(
+            p, procedure("q", *maker.statements(2), variables=VARIABLES, last=maker.statements(1)), maker.function(),
+            trigger("g", "t", "after", event, calls, variables=VARIABLES),
+            trigger("h", "u", "before", "put", ("if", ((equal(("field", "new", "of"), 3), (("skip",),)),), ()),
+                    ("new", "x", ("field", "new", "of")))))
 
-    def integer(self, columns=()):
-        r = self.random
-        choice = r.randrange(10)
-        if choice < 3:
-            return value(r.choice((0, 1, 2, 3, 5, 8, None)))
-        if choice < 6:
-            return col(r.choice(columns)) if columns else var("n")
-        if choice < 8:
-            return op(r.choice(("+", "-", "*", "mod", "div")), self.integer(columns), self.integer(columns))
-        return r.choice((("count", "t", TRUE), ("most", "t", col("a"), TRUE), ("field", "r", "a"),
-                         ("call", "f", (self.small(columns),)), ("sum", "u", col("of"), op("<", col("of"), var("n")))))
-
-    def small(self, columns):
-        return col(columns[0]) if columns else value(self.random.randrange(4))
-
-    def truth(self, columns=()):
-        r = self.random
-        if r.random() < 0.2:
-            return r.choice((TRUE, TRUE, FALSE, NULL))
-        return op(r.choice(("<", "=", "<")), self.integer(columns), self.integer(columns))
-
-    def statements(self, deep, labels=(), in_handler=False):
-        return tuple(self.statement(deep, labels, in_handler) for _ in range(self.random.randrange(1, 4)))
-
-    def statement(self, deep, labels, in_handler):
-        r = self.random
-        if deep > 0 and r.random() < 0.5:
-            return self.deep_statement(deep - 1, labels, in_handler)
-        simple = [
-            ("set", "n", self.integer()), ("put", "t", sets(b=self.integer()), None),
-            ("put", "t", sets(a=self.integer()), "n"), ("put", "u", sets(of=self.integer()), None),
-            ("fill", "u", sets(of=col("a")), "t", self.truth(("a", "b")), None),
-            ("change", "t", sets(a=self.integer(("a", "b"))), self.truth(("a", "b")), "n"),
-            ("change", "u", sets(of=self.integer(("of", "x"))), self.truth(("of", "x")), None),
-            ("take", "t", self.truth(("a", "b")), None), ("put", "v", sets(q=self.integer()), None),
-            ("change", "v", sets(q=self.integer(("q", "z"))), self.truth(("q", "z")), None),
-            ("get", "r", "t", self.truth(("a", "b"))), ("open", "c", "t", self.truth(("a", "b"))), ("fetch", "c", "r", "f"),
-            ("fetch", "c", "r", "f"), ("changeat", "c", sets(b=self.integer(("a", "b")))), ("takeat", "c"), ("close", "c"),
-            ("mark", "m"), ("mark", "k"), ("back", "m"), ("back", "k"), ("free", "m"), ("look",),
-            ("raise", "e", (self.integer(),)), ("do", r.choice("pq"), ()), ("return", None), ("set", "f", self.truth()),
-            ("make", procedure("made")), ("drop", "made"), ("doby", value("made"), ()),
-        ]
-        if labels:
-            label, is_loop = r.choice(labels)
-            simple += [("leave", label)] + [("next", label)] * is_loop
-        if in_handler:
-            simple += [("again",), ("set", "n", ("told", 0, "int")), ("set", "w", ("word",))]
-        return r.choice(simple)
-
-    def deep_statement(self, deep, labels, in_handler):
-        r = self.random
-        label = "l" + "abcdefgh"[len(labels)]
-        choice = r.randrange(6)
-        if choice == 0:
-            return ("if", ((self.truth(), self.statements(deep, labels, in_handler)),), self.statements(deep, labels, in_handler))
-        if choice == 1:
-            inner = labels + ((label, True),)
-            return ("while", label, self.truth(), self.statements(deep, inner, in_handler))
-        if choice == 2:
-            inner = labels + ((label, True),)
-            return ("each", label, "r", "t", self.truth(("a", "b")), self.statements(deep, inner, in_handler))
-        inner = labels + ((label, False),)
-        handlers = []
-        for _ in range(r.randrange(3)):
-            words = tuple(r.sample(WORDS, r.randrange(4)))
-            handlers.append((words, self.statements(deep, inner, True)))
-        last = self.statements(deep, labels, in_handler) if r.random() < 0.4 else ()
-        variables = (variable("n", "int", self.integer()),) if r.random() < 0.3 else ()
-        return block(*self.statements(deep, inner, in_handler), label=label, variables=variables, handlers=handlers, last=last)
-
-    def store(self):
-        f = function("f", ("if", ((op("<", 2, var("k")), (("return", value(2)),)),), ()), ("return", plus(var("k"), 1)),
-                     params=(("k", "int", "in"),))
-        calls = ("if", ((op("<", ("count", "t", TRUE), 15), self.statements(2)),), ())
-        g = trigger("g", "t", "after", self.random.choice(("put", "change", "take")), calls, variables=VARIABLES)
-        h = trigger("h", "u", "before", "put", ("if", ((equal(("field", "new", "of"), 3), (("skip",),)),), ()),
-                    ("new", "x", ("field", "new", "of")))
-        p = procedure("p")
-        while p == procedure("p") or not is_bounded(p):
-            p = procedure("p", *self.statements(3), *self.statements(3), variables=VARIABLES)
-        return LoggedTimedStore.of(
-            ("sequence", ("s", 1, 1)), *tables(T, U), ("view", V), *programs(
-                p, procedure("q", *self.statements(2), variables=VARIABLES, last=self.statements(1)), f, g, h))
-
-
-class RandomTest(unittest.TestCase):
     def call(self, store, word):
         """Calls a procedure and looks at its history and trace; how it ended."""
         replay = Replay(store)
         other = store.copy()
         before = len(store.journal)
         ended = outcome_of(store, word)
-        again = outcome_of(other, word)
-        self.assertEqual(ended, again)
+        self.assertEqual(ended, outcome_of(other, word))
         self.assertEqual(other.journal, store.journal)
         deeds = store.journal[before:]
         self.assertEqual(replay.do(deeds).state(), Replay(store).state())
@@ -136,22 +57,19 @@ class RandomTest(unittest.TestCase):
     def test_calls(self):
         words = {}
         for seed in range(150):
-            store = Maker(seed).store()
+            store = self.store(seed)
             store.begin()
             start = Replay(store)
-            for a in (1, 2, 3):
-                store.put("t", sets(b=a)) if "g" not in store.programs else None
             for _ in range(3):
                 ended = self.call(store, "p")
                 words[ended[1]] = words.get(ended[1], 0) + 1
             begin = Replay(store.behind(1))
             begin.numbers = dict(start.numbers)
-            straight = straight_deeds(store.journal)
-            self.assertEqual(begin.do(straight).state(), Replay(store).state())
+            self.assertEqual(begin.do(straight_deeds(store.journal)).state(), Replay(store).state())
             self.check_commit(store)
-        # Calls end in many ways, and many end well.
+        # Calls end in many ways.
         self.assertGreater(len(words), 10)
-        self.assertGreater(words["well"], 50)
+        self.assertGreater(words["well"], 20)
 
     def check_commit(self, store):
         copy = store.copy()
@@ -165,18 +83,74 @@ class RandomTest(unittest.TestCase):
         self.assertTrue(again == store == copy)
         self.assertTrue(again.behind(2) == store and again.behind(1) == store.behind(1))
         for word in store.tables:
-            for number, row in store.rows(word):
+            for number, _ in store.rows(word):
                 for name in [part[0] for part in store.thing(word)[1]]:
                     self.assertEqual(store.cause(word, number, name), again.cause(word, number, name))
         self.assertTrue(LoggedTimedStore.recovered(store.checkpoint()) == store)
 
 
-def outcome_of(store, word):
-    """How a call ends: its fields, its history and its trace."""
-    try:
-        outcome = run(store, word, most=300)
-    except Raised as e:
-        return ("raised", e.word, e.details, e.program, e.place, e.stack, e.causes, e.history, e.trace)
-    except Stale as e:
-        return ("stale", e.fault, e.word, e.place)
-    return ("ended", "well", outcome.results, outcome.history, outcome.trace)
+class PlainTest(unittest.TestCase):
+    """Programs do what a plain reading of the document says, step by step."""
+
+    def test_calls(self):
+        words = {}
+        for seed in range(400):
+            maker = PlainMaker(seed)
+            store = begun(*maker.THINGS, *programs(*maker.programs()))
+            for a in (0, 1, 2):
+                store.put("t", sets(a=a))
+            other = store.copy()
+            try:
+                outcome = run(store, "p", most=5000)
+                found, trace = outcome.results, outcome.trace
+            except Raised as e:
+                found, trace = (e.word, e.details, e.program, e.place, e.stack, e.causes), e.trace
+            wanted, wanted_trace = Plain(other).call("p")
+            self.assertEqual(found, wanted, seed)
+            self.assertEqual([entry for entry in trace if entry[0] != "deed"], wanted_trace, seed)
+            self.assertEqual(store.journal, other.journal, seed)
+            words[found[0]] = words.get(found[0], 0) + 1
+        self.assertGreater(len(words), 8)
+
+
+class CallTest(unittest.TestCase):
+    """A call of a function gives what its expression gives, wherever it stands."""
+
+    def swapped(self, tree, is_inline):
+        """The tree with f(e) as a call or as e + 1."""
+        if not isinstance(tree, tuple):
+            return tree
+        if len(tree) == 3 and tree[:2] == ("call", "f"):
+            arg = self.swapped(tree[2][0], is_inline)
+            return plus(arg, 1) if is_inline else ("call", "f", (arg,))
+        return tuple(self.swapped(part, is_inline) for part in tree)
+
+    def stripped(self, trace):
+        """The trace without deeds and without what functions do."""
+        found = []
+        within = 0
+        for entry in trace:
+            within += entry == ("enter", "f")
+            if not within and entry[0] != "deed":
+                found.append(entry)
+            within -= bool(within and entry[0] == "leave")
+        return found
+
+    def test_calls(self):
+        many = 0
+        for seed in range(150):
+            maker = StoreMaker(seed)
+            f = ("function", "f", (("k", "int", "in"),), "int", ("block", None, (), (("return", plus(var("k"), 1)),), (), ()))
+            p = maker.bounded(lambda: procedure("p", *maker.statements(3), variables=VARIABLES))
+            if "'do'" in str(p):
+                continue
+            ended = []
+            for is_inline in (True, False):
+                store = begun(*maker.THINGS, *programs(f, self.swapped(p, is_inline)))
+                store.put("t", sets(a=value(2), b=value(1)))
+                found = outcome_of(store, "p")
+                ended.append((found[:-2], store.journal, self.stripped(found[-1])))
+            if "long" not in (ended[0][0][1], ended[1][0][1]):
+                self.assertEqual(ended[0], ended[1], seed)
+                many += "'call'" in str(p)
+        self.assertGreater(many, 20)

@@ -1,9 +1,10 @@
 """Points 22, 25.5, 25.7 and 33: references, their acts, and late ones."""
 
 from deedstore.errors import NoTransaction
+from deedstore.machines import run
 from tests.build import (
-    NULL, TRUE, StoreTest, begun, block, col, column, equal, op, plus, programs, put, sets, set_,
-    table, tables, trigger, unchanged, value, variable,
+    NULL, TRUE, StoreTest, begun, block, col, column, equal, handler, op, plus, procedure, programs, put,
+    set_, sets, table, tables, trigger, unchanged, value,
 )
 
 
@@ -259,6 +260,15 @@ class BehindTest(StoreTest):
         self.assertEqual(store.commits, 2)
         self.has_rows(store, "p", (1, None))
         self.assertEqual(store.journal, ())
+
+    def test_look_of_programs(self):
+        guard = block(put("c", of=1), ("look",), handlers=(handler("refer", set_("w", ("told", 1, "text"))),))
+        p = procedure("look", guard, put("p", id=1), put("c", of=1), ("look",), params=(("w", "text", "out"),))
+        store = begun(*tables(parent(), child("keep", True)), *programs(p, procedure("wrong", put("c", of=7), ("look",))))
+        self.assertEqual(run(store, "look").results, ("to",))
+        self.has_rows(store, "c", (1, None))
+        error = self.raised(run, store, "wrong")
+        self.assertEqual((error.word, error.details, error.program, error.place), ("refer", ("c", "to"), "wrong", (0, 1)))
 
     def test_late_references_act_too(self):
         for act, wanted in (("cascade", ()), ("null", ((None, None),))):

@@ -4,9 +4,8 @@ from deedstore.errors import Stale
 from deedstore.machines import run
 from deedstore.stores import Store
 from tests.build import (
-    FALSE, NULL, TRUE, StoreTest, begun, block, col, do, equal, function, handler, op, plus,
-    procedure, programs, put, raise_, set_, sets, table, tables, trigger, unchanged, value, var,
-    variable,
+    FALSE, TRUE, StoreTest, begun, block, do, function, handler, op, procedure, programs, put,
+    raise_, set_, sets, table, trigger, unchanged, value, var, variable,
 )
 
 T = ("table", table("t", "a"))
@@ -85,6 +84,10 @@ class StaleTest(StoreTest):
         self.is_stale(store, "f", (0, 0), ("name", "zz"))
         self.fails(Stale, ("f", (0, 0), ("name", "zz")), store.put, "t", sets(a=("call", "f", ())))
         g = trigger("g", "t", "after", "put", do("zz"))
+        marking = trigger("g", "t", "after", "put", ("mark", "m"), set_("n", ("call", "f", ())), variables=(variable("n"),))
+        store = begun(T, *programs(f, marking))
+        self.fails(Stale, ("f", (0, 0), ("name", "zz")), store.put, "t", ())
+        self.assertEqual((store.journal, store.mark()), ((), 0))
         store = begun(T, ("sequence", ("s", 1, 1)), *programs(g, procedure("p", put("t", a=("number", "s")))))
         store.mark()
         # The statement is taken back first, of its deeds only those of numbers stay.

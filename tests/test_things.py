@@ -3,8 +3,8 @@
 from deedstore.errors import BadThing, InTransaction, Known, NoTransaction, Unknown, Used
 from deedstore.stores import Store
 from tests.build import (
-    NULL, TRUE, StoreTest, begun, block, col, column, equal, function, op, procedure, programs,
-    put, table, tables, trigger, unchanged, value, view,
+    NULL, TRUE, StoreTest, begun, col, column, equal, function, op, procedure, programs, put,
+    table, tables, trigger, unchanged, value, view,
 )
 from tests.helpers import nested
 
@@ -45,6 +45,13 @@ class FormTest(StoreTest):
         self.is_no_form(("table", (1, "t")), None)
         self.is_no_form(("table", ("abcdefghi", 1)), None)
         self.is_no_form(("view", ("v", "t")), "v")
+        self.is_no_form(("table", ("T", *T[1:])), None)
+        self.is_no_form(("view", ("V", *view("v", "t", ("a",))[1:])), None)
+        # Things of another kind than is said.
+        self.is_no_form(("table", view("v", "t", ("a",))), "v")
+        self.is_no_form(("view", T), "t")
+        self.is_no_form(("program", T), None)
+        self.is_no_form(("table", procedure("p")), None)
         self.is_no_form(("program", ("procedure",)), None)
         self.is_no_form(("program", ("procedure", "p")), "p")
         self.is_no_form(("program", ("x", "p", 1)), "p")
@@ -94,7 +101,7 @@ class FormTest(StoreTest):
         right = view("v", "t", ("a",))
         for at, wrongs in (
             (1, (None, 1, "T", ("t",))),
-            (2, (None, (), [], ("a",), (("a",),), (("a", "b", "c"),), (["a", "a"],), (("a", 1),))),
+            (2, (None, (), [], [("a", "a")], ("a",), (("a",),), (("a", "b", "c"),), (["a", "a"],), (("a", 1),))),
             (3, (None, True, ("var", "a"), ("count", "t", TRUE), ("number", "s"), ("word",))),
             (4, (None, 0, 1, "yes")),
         ):
@@ -117,6 +124,8 @@ class FormTest(StoreTest):
         self.assertEqual(Store.of(("table", table("t", *many[:284]))).tables, ("t",))
         self.is_no_form(("table", table("t", *many[:286])), "t")
         self.is_no_form(("table", nested(100)), None)
+        deep = ("not", ("not", deep))
+        self.is_no_form(("view", view("v", "t", ("a",), deep)), "v")
 
     def test_first_wrong_form_goes_ahead_of_all_else(self):
         store = begun(("table", T))
@@ -203,6 +212,15 @@ class FitTest(StoreTest):
         self.does_not_fit("view", "v", ("view", v), ("view", u))
         self.does_not_fit("view", "u", ("view", u), ("view", v))
         self.does_not_fit("view", "v", ("view", view("x", "k", ("a",))), ("view", v), ("view", u))
+        # A view over views that go round does not fit either.
+        self.does_not_fit("view", "x", ("view", view("x", "u", ("a",))), ("view", v), ("view", u))
+
+    def test_a_view_over_one_that_does_not_fit(self):
+        v, u = ("view", view("v", "u", ("a",))), ("view", view("u", "z", ("a",)))
+        self.does_not_fit("view", "u", v, u)
+        self.does_not_fit("view", "u", u, v)
+        v = ("view", view("v", "u", ("a",), equal(col("a"), 1)))
+        self.does_not_fit("view", "v", v, u)
 
     def test_any_order(self):
         things = (
@@ -424,6 +442,12 @@ class OfTest(StoreTest):
         self.fails(BadThing, ("form", "s"), Store.of, ("table", ()), ("sequence", ("s",)))
         self.fails(BadThing, ("form", None), Store.of, ("table", T), None)
         self.fails(Known, ("s",), Store.of, ("sequence", ("s", 1, 1)), ("table", table("s", "a")))
+
+    def test_what_is_no_pair(self):
+        s = ("s", 1, 1)
+        for x in (["sequence", s], ("sequence",), ("sequence", s, 1), "sequence", ("sequence",) * 3):
+            self.fails(BadThing, ("form", None), Store.of, x)
+        self.fails(BadThing, ("form", None), Store.of, ("sequence", None))
 
     def test_nothing(self):
         self.assertEqual(Store.of().commits, 1)

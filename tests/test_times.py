@@ -5,8 +5,8 @@ from deedstore.logged import LoggedStore, LoggedTimedStore, TimedStore
 from deedstore.machines import run
 from deedstore.stores import Store
 from tests.build import (
-    NULL, TRUE, StoreTest, block, col, column, equal, function, handler, op, plus, procedure,
-    programs, put, raise_, sets, table, tables, value, view,
+    NULL, TRUE, StoreTest, block, col, column, equal, handler, plus, procedure, programs, put,
+    raise_, sets, table, view,
 )
 
 T = table("t", "a", column("b", "text"))

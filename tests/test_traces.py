@@ -3,8 +3,8 @@
 from deedstore.errors import Raised
 from deedstore.machines import run
 from tests.build import (
-    FALSE, NULL, TRUE, StoreTest, begun, block, col, column, do, equal, function, handler, op, plus,
-    procedure, programs, put, raise_, set_, sets, table, tables, trigger, value, var, variable,
+    FALSE, TRUE, StoreTest, begun, block, col, do, equal, function, handler, op, plus, procedure,
+    programs, put, raise_, set_, sets, table, trigger, value, var, variable,
 )
 
 T = table("t", "a", keys=(("a",),))

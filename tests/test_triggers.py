@@ -1,10 +1,9 @@
 """Points 25 and 26: before- and after-triggers of statements."""
 
-from deedstore.errors import Raised
 from deedstore.stores import Store
 from tests.build import (
-    NULL, TRUE, StoreTest, begun, block, col, column, equal, function, handler, op, plus, programs,
-    put, raise_, set_, sets, table, tables, trigger, unchanged, value, variable,
+    NULL, TRUE, StoreTest, begun, block, col, column, equal, function, handler, op, plus,
+    programs, put, raise_, sets, table, tables, trigger, unchanged, value, variable,
 )
 
 
@@ -207,7 +206,7 @@ class ManyTest(StoreTest):
         class Small(Store):
             MOST = 3
 
-        loop = trigger("g", "t", "after", "put", ("while", None, TRUE, ()))
+        loop = trigger("g", "t", "after", "put", ("mark", "m"), ("while", None, TRUE, ()))
         rounds = trigger("h", "t", "after", "change", block(
             ("each", None, "r", "t", TRUE, ()), variables=(("r", ("row", "t"), None),)))
         store = Small.of(("table", T), *programs(rounds))
@@ -223,7 +222,9 @@ class ManyTest(StoreTest):
         self.assertEqual(store.change("t", sets(a=1), TRUE), 1)
         store.make(*programs(loop))
         error = self.raised(store.put, "t", ())
-        self.assertEqual((error.word, error.program, error.place), ("long", "g", (0, 0)))
+        self.assertEqual((error.word, error.program, error.place), ("long", "g", (0, 1)))
+        # The mark that was set in the statement is not freed, but dropped with it.
+        self.assertEqual(store.mark(), 0)
 
     def test_functions_and_triggers_of_other_events_do_not_run(self):
         store = begun(("table", T), *programs(

@@ -2,10 +2,9 @@
 
 from deedstore.errors import BadTree
 from tests.build import (
-    FALSE, NULL, TRUE, StoreTest, begun, col, column, equal, op, plus, procedure, programs, put,
-    sets, table, tables, trigger, unchanged, value, var, variable, view,
+    FALSE, NULL, TRUE, StoreTest, begun, col, column, equal, function, op, plus, programs, sets, table,
+    trigger, unchanged, value, var, view,
 )
-from deedstore.machines import run
 
 T = table("t", "a", column("b", "text"), column("c", default=5), keys=(("a",),))
 
@@ -78,7 +77,7 @@ class StatementTest(StoreTest):
             (op("and", equal(col("c"), None), equal(col("c"), 7)), 7),
             (equal(col("c"), None), 5), (equal(7, col("c")), 5), (op("or", equal(col("c"), 7), FALSE), 5),
             (("not", ("not", equal(col("c"), 7))), 5), (equal(col("c"), plus(7, 0)), 5),
-            (equal(col("c"), col("c")), 5), (("case", TRUE, equal(col("c"), 7), FALSE), 5),
+            (equal(col("c"), col("c")), 5), (equal("c", "c"), 5), (("case", TRUE, equal(col("c"), 7), FALSE), 5),
         ):
             store = self.store_with(view("v", "t", ("b",), c))
             store.put("v", ())
@@ -180,6 +179,13 @@ class StatementTest(StoreTest):
         store = self.store_with(view("v", "t", (("n", "a"),)))
         self.fails(BadTree, ((0, 0), "name"), store.put, "v", sets(b="x"))
         self.fails(BadTree, ((1,), "name"), store.take, "v", col("a"))
+
+    def test_calls_of_functions(self):
+        store = self.store_with(view("v", "t", (("n", "a"), ("a", "c")), equal(col("b"), "x")))
+        store.make(*programs(function("less", ("return", op("-", var("x"), 1)), params=(("x", "int", "in"),))))
+        given = sets(a=("call", "less", (plus(col("n"), col("a")),)))
+        self.assertEqual(store.change("v", given, equal(("call", "less", (("call", "less", (col("n"),)),)), 1)), 1)
+        self.has_rows(store, "t", (1, "x", 5), (2, "y", 5), (3, "x", 7))
 
     def test_aggregates_within_are_not_renamed(self):
         store = self.store_with(view("v", "t", (("b", "a"),), TRUE))
