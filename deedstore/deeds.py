@@ -19,10 +19,11 @@ def straight_deeds(history):
             at = deed[1] - first
             kept = marks[at]
             numbers = [other for other in straight[kept:] if other[0] == "number"]
-            straight = straight[:kept] + numbers
-            marks = marks[:at + 1]
+            del straight[kept:]
+            straight.extend(numbers)
+            del marks[at + 1:]
         elif deed[0] == "free":
-            marks = marks[:deed[1] - first]
+            del marks[deed[1] - first:]
         else:
             straight.append(deed)
     return tuple(straight)
