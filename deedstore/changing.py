@@ -259,8 +259,8 @@ def _end(statement, machine):
     cursor = order.cursor
     if cursor is not None and order.event == "take" and many > 0:
         cursor.fetched = None
-    if order.into is not None:
-        variable = order.frame.variable(order.into)
+    if order.result_word is not None:
+        variable = order.frame.variable(order.result_word)
         variable.value = many
     machine.finish(many)
 

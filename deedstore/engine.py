@@ -39,7 +39,7 @@ class Machine:
         # Begins the statement that comes next.
         self.starter = starter
         self.tasks = []
-        self.frames = [Frame(None, "")]
+        self.running = [Frame(None, "")]
         # How many programs and cascades run within one another.
         self.within = 0
         # How many statements on rows run within one another.
@@ -87,9 +87,9 @@ class Machine:
 
     def come_up(self, word, details):
         """Let a signal come up in the statement that runs."""
-        frame = self.frames[-1]
+        frame = self.running[-1]
         # Outside of calls the bottom frame is what calls; a call has none of these.
-        stack = tuple([(other.word, other.place) for other in self.frames[:-1]])
+        stack = tuple([(other.word, other.place) for other in self.running[:-1]])
         because = self.handled[-1] if self.handled else None
         signal = Signal(word, details, frame.word, frame.place, stack, because)
         self.raise_again(signal)

@@ -12,7 +12,7 @@ NO_KIND = "none"
 def check_sequence(catalogue, thing):
     """BadThing or Known if this sequence cannot be added."""
     if not is_sequence(thing):
-        raise BadThing("form", _first_word(thing, 0))
+        raise BadThing("form", first_word(thing, 0))
     if thing[0] in catalogue.infos:
         raise Known(thing[0])
 
@@ -45,10 +45,10 @@ def _check_form(pair):
         return
     if kind == "program" and is_program(tree):
         return
-    raise BadThing("form", _first_word(tree, 1 if kind == "program" else 0))
+    raise BadThing("form", first_word(tree, 1 if kind == "program" else 0))
 
 
-def _first_word(thing, at):
+def first_word(thing, at):
     """The word at this place of a thing of any form, None if there is none."""
     if isinstance(thing, tuple) and len(thing) > at and is_word(thing[at]):
         return thing[at]

@@ -83,7 +83,6 @@ class LoggedTimedStore(LoggedStore, TimedStore):
     """A store with a log and with times."""
 
     def __init__(self):
-        Store.__init__(self)
+        LoggedStore.__init__(self)
         core = self.core
-        core.scribe = Scribe()
         core.times = Times()

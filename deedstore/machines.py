@@ -1,7 +1,7 @@
 """Calls of procedures."""
 
-from deedstore.errors import BadArgs, Busy, NoTransaction, Stale, Unknown
-from deedstore.runs import ProgramRun, check_program, program_frame, scope_of_params
+from deedstore.errors import BadArgs, Busy, NoTransaction, Unknown
+from deedstore.runs import ProgramRun, check_program, program_frame, raise_stale, scope_of_params
 from deedstore.signals import raise_signal
 from deedstore.starts import new_machine
 from deedstore.values import is_integer, is_value, is_word, value_kind
@@ -24,17 +24,22 @@ class Call:
         self.k = k
         self.before = before
         self.trace = trace
+        # Its deeds, behind its end.
+        self.history = ()
 
 
 def run(store, procedure, *args, most=100000):
     """Call the procedure with this word; its Outcome."""
-    call = begin_call(store, procedure, args, most)
+    info, values = asked_procedure(store, procedure, args, most)
+    check_program(store.core.catalogue, info)
+    call = begin_call(store.core, info, values, most)
     call.machine.run()
-    return end_call(call)
+    end_call(call)
+    return outcome_of(call)
 
 
-def begin_call(store, procedure, args, most):
-    """Begin a call, up to before the first statement of the procedure."""
+def asked_procedure(store, procedure, args, most):
+    """What is known of a procedure that is to be called, and the values of all its params."""
     core = store.core
     if core.standing:
         raise Busy()
@@ -46,11 +51,15 @@ def begin_call(store, procedure, args, most):
     values = _values_of_params(info.tree[2], args)
     if not is_integer(most) or most < 0:
         raise BadArgs("most")
-    check_program(core.catalogue, info)
+    return info, values
+
+
+def begin_call(core, info, values, most):
+    """Begin a call of a procedure without fault, up to before its first statement."""
     machine = new_machine(core, most)
     frame = program_frame(machine, info, scope_of_params(info.tree[2], values))
     # No part of the stack of a signal stands for what is outside of the call.
-    machine.frames = [frame]
+    machine.running = [frame]
     machine.push(ProgramRun(frame))
     call = Call(machine, len(core.marks), len(core.deeds), [])
     core.told = call.trace
@@ -83,19 +92,21 @@ def _is_of_kind(value, kind):
 
 
 def end_call(call):
-    """The Outcome of a call that has ended; what leaves it is raised."""
-    machine = call.machine
-    core = machine.core
-    has_failed = machine.way is not None
-    if has_failed:
+    """End a call of which nothing is left to be done: what has failed is taken back."""
+    core = call.machine.core
+    if call.machine.way is not None:
         core.undo_mark(call.k)
     core.free_mark(call.k)
     core.told = None
+    call.history = tuple(core.deeds[call.before:])
+
+
+def outcome_of(call):
+    """The Outcome of a call that has ended; what has left it is raised."""
+    machine = call.machine
     if machine.stale is not None:
-        word, place, fault = machine.stale
-        raise Stale(word, place, fault)
-    history = tuple(core.deeds[call.before:])
+        raise_stale(machine.stale)
     trace = tuple(call.trace)
-    if has_failed:
-        raise_signal(machine.way.signal, history, trace)
-    return Outcome(tuple(machine.value), history, trace)
+    if machine.way is not None:
+        raise_signal(machine.way.signal, call.history, trace)
+    return Outcome(tuple(machine.value), call.history, trace)

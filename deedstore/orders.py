@@ -40,7 +40,7 @@ class Order:
         self.sets = []
         self.cursor = None
         # The variable that gets the result, or None.
-        self.into = None
+        self.result_word = None
 
     def set_columns(self, sets, is_own):
         """Take these sets; their columns are the own ones of the table or view, or others."""

@@ -34,7 +34,7 @@ def _take(machine, frame, tree, place):
 
 
 def _begin(machine, order, into):
-    order.into = into
+    order.result_word = into
     begin_order(machine, order)
 
 

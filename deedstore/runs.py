@@ -7,14 +7,28 @@ from deedstore.looks import first_fault
 from deedstore.signals import Trouble
 
 
-def check_program(catalogue, info):
-    """Stale if this program has a fault against the present catalogue."""
+def staleness(catalogue, info):
+    """The word, place and fault of this program if it is stale, otherwise None."""
     if info in catalogue.faultless:
-        return
+        return None
     found = first_fault(catalogue, info.tree)
     if found is not None:
-        raise Stale(info.word, found[0], found[1])
+        return (info.word, *found)
     catalogue.faultless[info] = True
+    return None
+
+
+def raise_stale(found):
+    """Raise that a program is stale; found are its word, place and fault."""
+    word, place, fault = found
+    raise Stale(word, place, fault)
+
+
+def check_program(catalogue, info):
+    """Stale if this program has a fault against the present catalogue."""
+    found = staleness(catalogue, info)
+    if found is not None:
+        raise_stale(found)
 
 
 def look_again(machine, frame):
@@ -41,8 +55,8 @@ def begin_program(machine, info, scope):
     check_program(machine.core.catalogue, info)
     machine.begun += 1
     machine.within += 1
-    machine.frames.append(program_frame(machine, info, scope))
-    frame = machine.frames[-1]
+    machine.running.append(program_frame(machine, info, scope))
+    frame = machine.running[-1]
     machine.core.tell(("enter", info.word))
     machine.push(ProgramRun(frame))
 
@@ -100,7 +114,7 @@ class ProgramRun(Task):
             free_marks(machine, self.frame)
             self.shut(machine)
             machine.tasks.pop()
-            machine.frames.pop()
+            machine.running.pop()
             machine.within -= 1
             return
         machine.way = None
@@ -111,7 +125,7 @@ class ProgramRun(Task):
         free_marks(machine, self.frame)
         machine.core.tell(("leave", name))
         machine.finish(self.result_of(way))
-        machine.frames.pop()
+        machine.running.pop()
         machine.within -= 1
 
     def result_of(self, way):
@@ -129,12 +143,13 @@ class ProgramRun(Task):
 
 
 def begin_statement(machine, frame, tree, place):
-    """Let this statement come next."""
+    """Let this statement come next, if the program is not stale."""
+    look_again(machine, frame)
     machine.push(Beginning(frame, tree, place))
 
 
 class Beginning(Task):
-    """A statement that comes next."""
+    """A statement that comes next: while it is the topmost task, the machine stands before it."""
 
     def __init__(self, frame, tree, place):
         self.frame = frame
@@ -143,7 +158,6 @@ class Beginning(Task):
 
     def go_on(self, machine):
         frame = self.frame
-        look_again(machine, frame)
         machine.tasks.pop()
         frame.place = self.place
         machine.core.tell(("at", self.place))

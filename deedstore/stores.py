@@ -3,11 +3,12 @@
 from deedstore.asked import check_condition, check_sets
 from deedstore.changing import begin_order
 from deedstore.cores import Core
-from deedstore.errors import Busy, InTransaction, NoTransaction, Raised, Stale, Unknown
+from deedstore.errors import Busy, InTransaction, NoTransaction, Raised, Unknown
 from deedstore.evaluations import shown_rows
 from deedstore.fits import check_drop, check_make, check_sequence
 from deedstore.orders import change_order, fill_order, put_order, take_order
 from deedstore.references import check_references
+from deedstore.runs import raise_stale
 from deedstore.signals import Trouble, raise_outside, raise_signal
 from deedstore.starts import new_machine
 from deedstore.trees import write_tree
@@ -207,12 +208,11 @@ class Store:
 def _run_order(store, make_order, *parts):
     """Run the statement that has these parts; its result."""
     machine = new_machine(store.core, store.MOST)
-    order = make_order(store.core, machine.frames[0], *parts)
+    order = make_order(store.core, machine.running[0], *parts)
     begin_order(machine, order)
     machine.run()
     if machine.stale is not None:
-        word, place, fault = machine.stale
-        raise Stale(word, place, fault)
+        raise_stale(machine.stale)
     if machine.way is not None:
         raise_signal(machine.way.signal, (), ())
     return machine.value

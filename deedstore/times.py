@@ -19,6 +19,11 @@ class Times:
     """The moments behind the commits of a store, and the causes of its values."""
 
     def __init__(self):
+        self.forget_all()
+
+    def forget_all(self):
+        """Know of no commit, as behind the begin of a log."""
+        # The empty store lies behind 0, unless the first commit tells otherwise.
         self.moments = {0: Moment(Core())}
         self.is_new = True
         # Of each row behind the last commit, by its number, the causes of its values.
@@ -36,7 +41,7 @@ class Times:
 
     def begin_anew(self, core, deeds):
         """Note the present store as what its last commit made with these deeds."""
-        self.moments = {}
+        self.forget_all()
         self.note_commit(core, core.last_commit, deeds)
 
     def present_causes(self, core, which):

@@ -1,5 +1,9 @@
 """Deeds done one after the other, as point 31 tells, without the program."""
 
+from deedstore.errors import BadThing, Known, Unknown, Used
+from deedstore.stores import Store
+from deedstore.values import is_value
+
 
 class Replay:
     """Things and rows, as deeds make them."""
@@ -63,3 +67,99 @@ class Replay:
 
     def state(self):
         return (self.things, self.rows, self.numbers)
+
+
+class Strict(Replay):
+    """The same, with all that point 31 asks of each deed; things are made and dropped by a store."""
+
+    KINDS = {int: "int", str: "text", bool: "truth"}
+
+    def __init__(self, store):
+        super().__init__(store)
+        self.store = Store.of(*[("sequence", store.thing(word)) for word in store.sequences])
+        self.store.begin()
+        things = [("table", store.tables), ("view", store.views), ("program", store.programs)]
+        self.store.make(*[(kind, store.thing(word)) for kind, words in things for word in words])
+
+    def first_wrong(self, history):
+        """The index of the first deed that cannot be done, None if all are done."""
+        for index, deed in enumerate(history):
+            if not self.can_do(deed):
+                return index
+            super().do((deed,))
+        return None
+
+    def can_do(self, deed):
+        if not isinstance(deed, tuple) or not deed or not isinstance(deed[0], str):
+            return False
+        test = {
+            "put": self.can_put, "change": self.can_change, "take": self.can_take, "make": self.can_make, "drop": self.can_drop,
+            "number": self.can_number, "mark": self.can_mark, "undo": self.can_undo, "free": self.can_undo}.get(deed[0])
+        many = {"put": 4, "change": 4, "take": 3, "number": 3}.get(deed[0], 2)
+        return test is not None and len(deed) == many and test(*deed[1:])
+
+    def has_table(self, table):
+        return isinstance(table, str) and table in self.store.tables
+
+    def can_put(self, table, number, row):
+        if type(number) is not int or number < 0 or number in self.rows or not self.has_table(table):
+            return False
+        columns = self.store.thing(table)[1]
+        if not isinstance(row, tuple) or len(row) != len(columns):
+            return False
+        return all(x is None or self.KINDS.get(type(x)) == part[1] and is_value(x) for x, part in zip(row, columns))
+
+    def can_change(self, table, number, row):
+        if not self.can_take(table, number):
+            return False
+        kept = self.rows.pop(number)
+        found = self.can_put(table, number, row)
+        self.rows[number] = kept
+        return found
+
+    def can_take(self, table, number):
+        return self.has_table(table) and type(number) is int and number in self.rows and self.rows[number][0] == table
+
+    def can_make(self, things):
+        if not isinstance(things, tuple) or not things:
+            return False
+        try:
+            self.store.make(*things)
+        except (BadThing, Known):
+            return False
+        return True
+
+    def can_drop(self, words):
+        if not isinstance(words, tuple) or not words:
+            return False
+        if any(isinstance(word, str) and word in [table for table, _ in self.rows.values()] for word in words):
+            return False
+        try:
+            self.store.drop(*words)
+        except (Unknown, Used):
+            return False
+        return True
+
+    def can_number(self, sequence, value):
+        if not isinstance(sequence, str) or sequence not in self.numbers or type(value) is not int:
+            return False
+        return value == self.numbers[sequence] and is_value(value)
+
+    def can_mark(self, k):
+        if type(k) is not int or k < 0:
+            return False
+        if self.first is None or k == self.first + len(self.marks):
+            self.store.mark()
+            return True
+        return False
+
+    def can_undo(self, k):
+        return type(k) is int and self.first is not None and 0 <= k - self.first < len(self.marks)
+
+    def undo(self, k):
+        super().undo(k)
+        self.store.undo(k - self.first)
+
+    def free(self, k):
+        super().free(k)
+        self.store.free(k - self.first)

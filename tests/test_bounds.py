@@ -4,11 +4,16 @@ import inspect
 import sys
 import time
 
-from deedstore.errors import Stale
+from deedstore.errors import BadDeed, BadThing, Stale
+from deedstore.faults import faults
+from deedstore.histories import is_history, replayed, straight
 from deedstore.logged import LoggedTimedStore
 from deedstore.machines import run
+from deedstore.programs import fault, stale
+from deedstore.steppers import Stepper
+from deedstore.stores import Store
 from tests.build import (
-    FALSE, NULL, TRUE, StoreTest, begun, block, col, column, equal, function, handler, op, plus,
+    FALSE, NULL, TRUE, StoreTest, begun, block, col, column, do, equal, function, handler, op, plus,
     procedure, programs, put, raise_, set_, sets, table, tables, trigger, value, var, variable,
     view,
 )
@@ -134,6 +139,61 @@ class LevelTest(StoreTest):
             self.assertEqual(again.checkpoint(), store.checkpoint())
 
 
+    def test_deep_checks_and_views_in_faults_and_histories(self):
+        c = nots(24, FALSE)
+        t = table("t", column("a", "truth", True, c), checks=(("c", c),))
+        with FewLevels():
+            store = begun(("table", t), ("view", view("v", "t", ("a",), nots(26, TRUE), True)))
+            before = store.copy()
+            broken = replayed(store, (("drop", ("v",)), ("put", "t", 0, (True,))))
+            self.assertEqual(faults(broken), [("check", "t", "c", 0)])
+            store.drop("v")
+            self.assertTrue(is_history(before, store.journal, store))
+            self.assertEqual(straight(store.journal), store.journal)
+
+    def test_deep_programs_looked_at(self):
+        deep = block(set_("zz", nots(1, TRUE)))
+        levels = 1
+        while depth(deep) < 28:
+            deep = block(deep, handlers=(handler("y"),), last=(("look",),))
+            levels += 1
+        program = ("procedure", "p", (), deep)
+        with FewLevels():
+            self.assertEqual(fault(Store(), program), ((0, 0) * levels, ("name", "zz")))
+            store = begun(*programs(program))
+            self.assertEqual(stale(store), [("p", (0, 0) * levels, ("name", "zz"))])
+            for many in (28, 5000):
+                self.fails(BadThing, ("form", "p"), fault, store, ("procedure", "p", (), block(set_("zz", nots(many, TRUE)))))
+
+    def test_deep_steps(self):
+        deep = block(put("t", b=nots(1, TRUE)), raise_("x"))
+        while depth(deep) < 28:
+            deep = block(deep, handlers=(handler("y"),), last=(("look",),))
+        with FewLevels():
+            store = begun(("table", T), *programs(("procedure", "p", (), deep)))
+            stepper = Stepper(store, "p")
+            blocks = 0
+            while stepper.at is not None:
+                blocks = max(blocks, len(stepper.frames[0][2]))
+                stepper.into()
+            self.assertEqual(self.raised(stepper.outcome).word, "x")
+            stepper = Stepper(store, "p")
+            for _ in range(blocks):
+                stepper.into()
+            stepper.give_up()
+        self.assertGreater(blocks, 10)
+
+    def test_steps_of_programs_within_one_another(self):
+        words = "abcdefgh"
+        made = [procedure(words[k], do(words[k + 1]) if k < 7 else ("look",)) for k in range(8)]
+        store = begun(*programs(*made, procedure("p", do("a"))))
+        with FewLevels():
+            stepper = Stepper(store, "p")
+            self.assertEqual(stepper.until("h", (0, 0)), ("h", (0, 0)))
+            self.assertEqual([frame[0] for frame in stepper.frames], list("p" + words))
+            self.assertIsNone(stepper.out())
+
+
 class ManyTest(StoreTest):
     def test_2000_parts(self):
         many = procedure("p", *[set_("n", plus(var("n"), 1))] * 164, params=(("n", "int", "both"),))
@@ -165,6 +225,52 @@ class ManyTest(StoreTest):
         store.commit()
         self.assertEqual(sum(len(list(store.rows(word))) for word in store.tables), 0)
         self.assertLess(time.perf_counter() - begin, 30)
+
+    def test_many_deeds_and_steps(self):
+        loop = ("while", None, op("<", var("n"), 3000), (set_("n", plus(var("n"), 1)), block(
+            put("t", a=var("n")), raise_("e"), handlers=(handler("e"),))))
+        p = procedure("p", loop, ("take", "t", TRUE, None), variables=(variable("n", "int", 0),))
+        store = begun(("table", T), *programs(p))
+        before = store.copy()
+        begin = time.perf_counter()
+        stepper = Stepper(store, "p")
+        many = 1
+        while stepper.into() is not None:
+            many += 1
+        history = stepper.outcome().history
+        self.assertEqual((many, len(history)), (3 + 3000 * 4, 3000 * 4 + 2))
+        self.assertTrue(is_history(before, history, store))
+        self.assertEqual(straight(history), ())
+        self.assertLess(time.perf_counter() - begin, 30)
+
+    def test_300_rows_and_30_things_looked_at(self):
+        kids = [table("c" + a, "of", keys=(("of",),), references=(("r", ("of",), "p", "cascade", True),)) for a in "abcdefghij"]
+        calls = [procedure("q" + a, ("change", "c" + a, sets(of=col("of")), TRUE, None), do("zz")) for a in "abcdefghij"]
+        store = begun(("table", table("p", "id", keys=(("id",),))), *tables(*kids), *programs(*calls))
+        before = store.copy()
+        begin = time.perf_counter()
+        for word in store.tables:
+            for k in range(27):
+                store.put(word, (("id" if word == "p" else "of", value(k)),))
+        store.take("p", op("<", col("id"), 0))
+        self.assertEqual((faults(store), len(stale(store))), ([], 10))
+        self.assertTrue(is_history(before, store.journal, store))
+        broken = replayed(store, tuple(("take", "p", n) for n, _ in store.rows("p")))
+        self.assertEqual(len(faults(broken)), 270)
+        self.assertLess(time.perf_counter() - begin, 30)
+
+    def test_no_steps_that_grow_with_integers_in_histories(self):
+        store = Store.of(("sequence", ("s", -(10 ** 30), 10 ** 30)), ("table", T))
+        huge = 10 ** 99
+        deeds = (("mark", huge), ("number", "s", -(10 ** 30)), ("number", "s", 0), ("put", "t", huge, (10 ** 30, None)), ("mark", huge + 1),
+                 ("undo", huge + 1), ("free", huge))
+        found = replayed(store, deeds)
+        self.assertEqual((list(found.rows("t")), found.following("s")), ([(huge, (10 ** 30, None))], 10 ** 30))
+        self.assertEqual(straight(deeds), deeds[1:4])
+        self.fails(BadDeed, (0,), replayed, store, (("undo", huge),))
+        self.assertFalse(is_history(store, (("mark", huge), ("undo", 10 * huge)), store))
+        store = begun(*programs(procedure("p", ("look",))))
+        self.assertIsNone(Stepper(store, "p", most=huge).until("p", (huge,)))
 
     def test_no_steps_that_grow_with_integers(self):
         store = LoggedTimedStore.of(("sequence", ("s", -(10 ** 30), 10 ** 30)), ("table", T), *programs(procedure("p", block(

@@ -1,14 +1,43 @@
-"""The examples of DOC.md that speak of Store, run and LoggedStore."""
+"""The examples of DOC.md."""
 
-from deedstore.errors import Raised
-from deedstore.histories import straight
+from deedstore.errors import BadTree, Busy, NoText, Raised
+from deedstore.histories import is_history, straight
+from deedstore.kinds import kind_of
 from deedstore.logged import LoggedStore
 from deedstore.machines import run
+from deedstore.programs import fault, stale
+from deedstore.steppers import Stepper
 from deedstore.stores import Store
+from deedstore.trees import read_tree, write_tree
 from tests.build import StoreTest
 
 
 class ExampleTest(StoreTest):
+    def test_trees_and_kinds(self):
+        self.assertEqual(write_tree(("a", (1, -2, None), True)), '("a" (1 -2 -) yes)')
+        self.assertEqual(read_tree('(() "a")'), ((), "a"))
+        self.fails(NoText, (3,), read_tree, "(1  2)")
+        self.fails(NoText, (2,), read_tree, "(01)")
+        self.assertEqual(kind_of(("op", "<", ("col", "a"), ("var", "n")), {"a": "int"}, {"n": "int"}), "truth")
+        self.fails(BadTree, ((3,), "name"), kind_of, ("op", "+", ("col", "a"), ("col", "c")), {"a": "int"}, {})
+
+    def test_steps(self):
+        inner = ("block", None, (("n", "int", ("value", 3)),), (("set", "n", ("value", 4)),), (), ())
+        outer = ("block", None, (), (("do", "r", ()), ("look",)), (), ())
+        store = Store.of(("program", ("procedure", "q", (), outer)), ("program", ("procedure", "r", (), inner)))
+        store.begin()
+        stepper = Stepper(store, "q")
+        self.assertEqual([stepper.at, stepper.into(), stepper.into(), stepper.into()], [
+            ("q", ()), ("q", (0, 0)), ("r", ()), ("r", (0, 0))])
+        self.assertEqual(stepper.frames, (("q", (0, 0), ({}, {})), ("r", (0, 0), ({}, {"n": 3}))))
+        self.fails(Busy, (), store.commit)
+        self.assertEqual(stepper.out(), ("q", (0, 1)))
+        self.assertEqual([stepper.over(), stepper.outcome().results], [None, ()])
+        self.assertEqual(fault(store, ("procedure", "x", (), ("block", None, (), (("set", "n", ("value", 1)),), (), ()))),
+                         ((0, 0), ("name", "n")))
+        store.drop("r")
+        self.assertEqual(stale(store), [("q", (0, 0), ("name", "r"))])
+
     def test_statements(self):
         shop = ("shop", (("no", "int", False, ("value", None)), ("name", "text", True, ("value", "-"))), (("no",),), (), ())
         plus = ("plus", ("op", "<", ("value", 0), ("col", "sum")))
@@ -26,6 +55,7 @@ class ExampleTest(StoreTest):
         self.fails(Raised, ("check", ("sale", "plus"), "", (), (), (), (), ()), store.put, "sale", (("sum", ("value", 0)),))
         self.assertEqual(store.take("shop", ("op", "=", ("col", "no"), ("value", 2))), 1)
         self.assertEqual([list(store.rows("sale")), store.journal[-2:]], [[], (("take", "sale", 2), ("take", "sale", 3))])
+        self.assertTrue(is_history(Store.of(("table", shop), ("table", sale)), store.journal, store))
 
     def test_a_handler(self):
         table = ("t", (("a", "int", False, ("value", None)),), (("a",),), (), ())

@@ -1,7 +1,9 @@
-"""Points 42, 43 and 55: the first fault of a program, as Stale tells it."""
+"""Points 42, 43 and 55: the first fault of a program, as fault, stale and Stale tell it."""
 
 from deedstore.errors import Stale
 from deedstore.machines import run
+from deedstore.programs import fault, stale
+from deedstore.steppers import Stepper
 from tests.build import (
     NULL, TRUE, StoreTest, begun, block, col, column, do, equal, function, handler, plus,
     procedure, programs, put, raise_, set_, sets, table, tables, trigger, unchanged, value, var,
@@ -34,33 +36,41 @@ class FaultTest(StoreTest):
                 function("frow", ("return", value(1)), params=both(ROW, CURSOR, "int")),
                 trigger("trig", "u", "after", "take"), *more))
 
-    def is_stale(self, place, fault, program, *given):
+    def is_stale(self, place, first, program, *given):
         """The program, which is called x, has this first fault."""
+        # It need not be there, and what is there of it is not what is looked at.
+        for store in (self.store(), self.store(procedure("x"))):
+            self.assertEqual(fault(store, program), (place, first))
         store = self.store(program)
+        self.assertEqual((fault(store, program), stale(store)), ((place, first), [("x", place, first)]))
         before = unchanged(store)
         if program[0] == "procedure":
-            self.fails(Stale, ("x", place, fault), run, store, "x", *given)
+            self.fails(Stale, ("x", place, first), run, store, "x", *given)
+            self.fails(Stale, ("x", place, first), Stepper(store, "x", *given).outcome)
         elif program[0] == "function":
             call = ("call", "x", tuple(NULL for _ in program[2]))
-            self.fails(Stale, ("x", place, fault), store.put, "t", (("b" if program[3] == "text" else "a", call),))
+            self.fails(Stale, ("x", place, first), store.put, "t", (("b" if program[3] == "text" else "a", call),))
         else:
-            self.fails(Stale, ("x", place, fault), store.put, "t", ())
+            self.fails(Stale, ("x", place, first), store.put, "t", ())
         self.assertEqual(unchanged(store)[:4], before[:4])
 
-    def has_fault(self, fault, *statements):
+    def has_fault(self, first, *statements):
         """The last of these statements has this fault, within a block that has VARIABLES."""
         place = (0, len(statements) - 1)
-        self.is_stale(place, fault, procedure("x", *statements, variables=VARIABLES))
+        self.is_stale(place, first, procedure("x", *statements, variables=VARIABLES))
         inner = block(*statements, variables=VARIABLES)
-        self.is_stale((0, 0, 0, 0, *place), fault, procedure("x", ("if", ((TRUE, (inner,)),), ())))
+        self.is_stale((0, 0, 0, 0, *place), first, procedure("x", ("if", ((TRUE, (inner,)),), ())))
 
     def has_none(self, *statements):
-        store = self.store(procedure("x", *statements, ("return", None), variables=VARIABLES))
+        program = procedure("x", *statements, ("return", None), variables=VARIABLES)
+        store = self.store(program)
+        self.assertIsNone(fault(store, program))
+        self.assertEqual(stale(store), [])
         store.make(*programs(procedure("quiet", ("if", (), ()), do("x"))))
         try:
             run(store, "x")
-        except Stale as stale:
-            self.fail(vars(stale))
+        except Stale as error:
+            self.fail(vars(error))
         except Exception as error:
             self.assertEqual(type(error).__name__, "Raised")
 
@@ -145,9 +155,12 @@ class NameTest(FaultTest):
 
     def test_a_cursor_param_of_a_function(self):
         program = function("x", ("return", value(1)), params=(("a", ("cursor", "zz"), "in"),))
-        store = self.store(program, procedure("y", set_("n", ("call", "x", (var("c"),))), variables=VARIABLES))
+        other = procedure("y", set_("n", ("call", "x", (var("c"),))), variables=VARIABLES)
+        store = self.store(program, other)
         # The call does not fit, as its cursor is one of another table.
         self.fails(Stale, ("y", (0, 0), ("kind", "set")), run, store, "y")
+        self.assertEqual(fault(store, other), ((0, 0), ("kind", "set")))
+        self.assertEqual(stale(store), [("x", (), ("name", "zz")), ("y", (0, 0), ("kind", "set"))])
 
 
 class KindTest(FaultTest):

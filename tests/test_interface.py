@@ -3,13 +3,18 @@
 import inspect
 import unittest
 
-from deedstore import histories, kinds, logged, machines, stores, trees
+from deedstore import errors, faults, histories, kinds, logged, machines, programs, steppers, stores, trees
 
 FUNCTIONS = (
     (trees, "write_tree", ["tree"]),
     (trees, "read_tree", ["text"]),
     (kinds, "kind_of", ["e", "columns", "variables"]),
+    (faults, "faults", ["store"]),
+    (histories, "replayed", ["store", "history"]),
+    (histories, "is_history", ["store", "history", "after"]),
     (histories, "straight", ["history"]),
+    (programs, "fault", ["store", "program"]),
+    (programs, "stale", ["store"]),
 )
 
 METHODS = {
@@ -21,10 +26,22 @@ METHODS = {
     },
     (logged, "LoggedStore"): {"checkpoint": []},
     (logged, "TimedStore"): {"behind": ["n"], "cause": ["table", "number", "column"]},
+    (steppers, "Stepper"): {
+        "into": [], "over": [], "out": [], "until": ["program", "place"], "outcome": [], "give_up": [],
+    },
 }
 PROPERTIES = {
     (stores, "Store"): ("tables", "sequences", "views", "programs", "journal", "commits"),
     (logged, "LoggedStore"): ("log",),
+    (steppers, "Stepper"): ("frames",),
+}
+ERRORS = {
+    ValueError: {"NoText": ["index"], "BadThing": ["reason", "word"], "BadTree": ["path", "word"], "BadDeed": ["index"], "BadArgs": ["word"]},
+    LookupError: {"Known": ["word"], "Unknown": ["word"], "Used": ["word"], "NoMark": ["k"]},
+    RuntimeError: {
+        "InTransaction": [], "NoTransaction": [], "Busy": [], "NotEnded": [], "Stale": ["word", "place", "fault"],
+        "Raised": ["word", "details", "program", "place", "stack", "causes", "history", "trace"],
+    },
 }
 
 
@@ -70,6 +87,31 @@ class InterfaceTest(unittest.TestCase):
     def test_run(self):
         self.assertEqual(str(inspect.signature(machines.run)), "(store, procedure, *args, most=100000)")
         self.assertEqual((machines.run.__module__, machines.Outcome.__module__), ("deedstore.machines",) * 2)
+
+    def test_stepper(self):
+        found = inspect.signature(steppers.Stepper).parameters
+        plain, many, named = inspect.Parameter.POSITIONAL_OR_KEYWORD, inspect.Parameter.VAR_POSITIONAL, inspect.Parameter.KEYWORD_ONLY
+        self.assertEqual([part.kind for part in found.values()], [plain, plain, many, named])
+        self.assertEqual(list(found)[:2] + [found["most"].default], ["store", "procedure", 100000])
+        self.assertEqual(steppers.Stepper.__module__, "deedstore.steppers")
+
+    def test_attributes_are_set_when_an_object_is_created(self):
+        store = stores.Store.of(("program", ("procedure", "p", (), ("block", None, (), (), (), ()))))
+        store.begin()
+        self.assertEqual(vars(steppers.Stepper(store, "p"))["at"], ("p", ()))
+        self.assertEqual(set(vars(machines.Outcome(1, 2, 3))), {"results", "history", "trace"})
+
+    def test_errors(self):
+        for base, made in ERRORS.items():
+            for name, fields in made.items():
+                error = getattr(errors, name)
+                self.assertEqual((error.__bases__, error.__module__), ((base,), "deedstore.errors"))
+                values = [[k] for k in range(len(fields))]
+                for found in (error(*values), error(**dict(zip(fields, values)))):
+                    for field, passed in zip(fields, values):
+                        self.assertIs(getattr(found, field), passed)
+        named = [x for x in vars(errors).values() if inspect.isclass(x)]
+        self.assertEqual(len(named), sum(map(len, ERRORS.values())))
 
     def test_classes(self):
         self.assertEqual(vars(stores.Store)["MOST"], 100000)

@@ -283,6 +283,31 @@ class ClassTest(unittest.TestCase):
             if isinstance(node, ast.Attribute):
                 self.assertIn(node.attr, known, (name, node.lineno))
 
+    def test_init_of_base_classes(self):
+        """L25, L28: `Base.__init__(self, ..)` in an __init__ alone, Base being one that the class itself names."""
+        seen = []
+        for made in classes():
+            bases = [ast.unparse(base) for base in made.bases]
+            for node in made.body:
+                if isinstance(node, ast.FunctionDef):
+                    for call in ast.walk(node):
+                        if isinstance(call, ast.Call) and ast.unparse(call.func).endswith("__init__"):
+                            self.assertEqual(node.name, "__init__", made.name)
+                            self.assertIn(ast.unparse(call.func.value), bases, (made.name, call.lineno))
+                            self.assertEqual(ast.unparse(call.args[0]), "self", (made.name, call.lineno))
+                            seen.append((call.lineno, call.func.value.id))
+        reads = [node for _, node in walked() if isinstance(node, ast.Attribute) and node.attr.startswith("__")]
+        # Nowhere else is a method with such a name read off anything.
+        self.assertEqual(len(reads), len(seen))
+        self.assertGreater(len(seen), 5)
+
+    def test_no_method_is_read_off_a_class(self):
+        """L18."""
+        names = {made.name for made in classes()}
+        for name, node in walked():
+            if isinstance(node, ast.Attribute) and isinstance(node.value, ast.Name) and node.value.id in names:
+                self.assertEqual(node.attr, "__init__", (name, node.lineno))
+
     def test_generators(self):
         """L23: no other function, and no attribute, has the name of one."""
         found = set()

@@ -1,6 +1,7 @@
 """Points 2, 40 and 41: the forms of programs and their statements."""
 
 from deedstore.errors import BadThing
+from deedstore.programs import fault
 from deedstore.stores import Store
 from tests.build import (
     NULL, TRUE, StoreTest, begun, block, function, procedure, programs, set_, trigger, value, var,
@@ -51,9 +52,12 @@ class FormTest(StoreTest):
     def is_form(self, program):
         store = begun(("program", program))
         self.assertEqual(store.thing(program[1]), program)
+        # Whether it has a fault is another question, which can be asked.
+        fault(Store(), program)
 
     def is_none(self, program, word="p"):
         self.fails(BadThing, ("form", word), Store.of, ("program", program))
+        self.fails(BadThing, ("form", word), fault, Store(), program)
 
     def is_statement(self, statement):
         for program in (procedure("p", EMPTY, statement), function("p", statement), procedure("p", last=(statement,)),
@@ -229,6 +233,8 @@ class BoundsTest(StoreTest):
         for _ in range(13):
             statement = block(statement)
         self.assertEqual(Store.of(*programs(("procedure", "p", (), statement))).programs, ("p",))
+        self.assertIsNone(fault(Store(), ("procedure", "p", (), statement)))
+        self.fails(BadThing, ("form", "p"), fault, Store(), ("procedure", "p", (), block(block(statement))))
         self.fails(BadThing, ("form", "p"), Store.of, *programs(("procedure", "p", (), block(block(statement)))))
         self.fails(BadThing, ("form", "p"), Store.of, *programs(("procedure", "p", (), nested(5000))))
 

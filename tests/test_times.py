@@ -2,6 +2,7 @@
 
 from deedstore.errors import InTransaction, NoTransaction, Unknown
 from deedstore.logged import LoggedStore, LoggedTimedStore, TimedStore
+from deedstore.logs import checksum
 from deedstore.machines import run
 from deedstore.stores import Store
 from tests.build import (
@@ -113,11 +114,43 @@ class BehindTest(StoreTest):
             self.fails(Unknown, (2,), found.behind, 2)
 
     def test_a_checkpoint_of_one_commit(self):
-        store = LoggedTimedStore.of(("table", T))
+        store = LoggedTimedStore.of(S, ("table", T))
+        for _ in range(2):
+            store.checkpoint()
+            for found in (store, LoggedTimedStore.recovered(store.log)):
+                # The first commit of the log is 1, so the empty store lies behind 0.
+                self.assertEqual((found.behind(0).tables, found.behind(0).sequences, found.behind(0).commits), ((), ("s",), 0))
+                self.assertEqual(found.behind(1).tables, ("t",))
+                self.fails(Unknown, (2,), found.behind, 2)
+        commit(store, ("put", "t", sets(a=1)))
+        for found in (store, LoggedTimedStore.recovered(store.log)):
+            self.assertEqual([len(list(found.behind(n).rows("t"))) for n in (1, 2)], [0, 1])
+            self.assertEqual((found.behind(0).tables, found.cause("t", 0, "a")), ((), (2, 0)))
         store.checkpoint()
         for found in (store, LoggedTimedStore.recovered(store.log)):
-            # The first commit of the log is 1, so the empty store lies behind 0.
-            self.assertEqual(found.behind(1).tables, ("t",))
+            self.assertEqual(found.cause("t", 0, "a"), (2, 1))
+            for n in (0, 1, 3):
+                self.fails(Unknown, (n,), found.behind, n)
+
+    def test_a_checkpoint_of_one_commit_without_deeds(self):
+        store = LoggedTimedStore()
+        commit(store)
+        self.assertEqual(store.checkpoint(), '("begin" 1)\n("commit" 1 4342)\n')
+        for found in (store, LoggedTimedStore.recovered(store.log)):
+            self.assertTrue(found.behind(0) == found.behind(1) == Store())
+            self.fails(Unknown, (2,), found.behind, 2)
+
+    def test_a_log_that_begins_with_commit_0(self):
+        store = LoggedTimedStore()
+        store.checkpoint()
+        commit(store, ("make", ("table", T)))
+        text = store.log.replace('("begin" 1)', '("begin" 0)')
+        lines = text.split("\n")
+        lines[-2] = '("commit" 0 {})'.format(checksum("\n".join(lines[2:-2]) + "\n"))
+        again = LoggedTimedStore.recovered("\n".join(lines[2:]))
+        # Behind 0 lies what that commit made, not the empty store.
+        self.assertEqual((again.commits, again.behind(0).tables), (0, ("t",)))
+        self.fails(Unknown, (1,), again.behind, 1)
 
     def test_commits_that_failed(self):
         t = table("u", "a", keys=(("a",),), references=(("r", ("a",), "u", "keep", True),))
