@@ -7,7 +7,7 @@ from deedstore.values import is_integer, is_value, is_word
 
 
 class Replay:
-    """The deeds of a history, done one after the other, in a transaction of this state."""
+    """The deeds of a history, which are done one after the other."""
 
     def __init__(self, core):
         self.core = core
@@ -79,9 +79,8 @@ def _is_of_form(deed, head, many):
 def replayed(store, history):
     """The store that the deeds of a history make out of this one; BadDeed with the first wrong one."""
     core = store.core.copied()
-    # What the present transaction has done stays, only its end is not there to be taken back.
+    # What the present transaction has done stays, and marks are those of the history alone.
     core.end_transaction()
-    core.begin_transaction()
     replay = Replay(core)
     for index, deed in enumerate(history):
         if not replay.takes(deed):

@@ -12,9 +12,9 @@ class Stepper:
     at tells the program and the place of that statement, and is None at the end.
     """
 
-    def __init__(self, store, procedure, *passed, most=100000):
+    def __init__(self, store, procedure, *args, most=100000):
         core = store.core
-        info, values = asked_procedure(store, procedure, passed, most)
+        info, values = asked_procedure(store, procedure, args, most)
         self.at = None
         self.core = core
         self.call = None
@@ -89,7 +89,7 @@ class Stepper:
         """Run until the next statement comes, or until the end."""
         machine = self.call.machine
         machine.step()
-        while machine.tasks and not _stands(machine):
+        while machine.tasks and not isinstance(machine.tasks[-1], Beginning):
             machine.step()
         if machine.tasks:
             self.at = (machine.running[-1].word, machine.tasks[-1].place)
@@ -104,11 +104,6 @@ class Stepper:
         core.standing = False
 
 
-def _stands(machine):
-    """Whether a statement comes next in this machine."""
-    return machine.way is None and isinstance(machine.tasks[-1], Beginning)
-
-
 def _values_of(frame):
     """The values of the variables of a frame: of its params, then of each block that is open."""
     return tuple([_values_in(scope) for scope in frame.scopes])
@@ -120,6 +115,6 @@ def _values_in(scope):
 
 def _value_of(variable):
     """The value of a variable; of a cursor whether it is open."""
-    if isinstance(variable.kind, tuple) and variable.kind[0] == "cursor":
+    if variable.kind[0] == "cursor":
         return variable.value.kept is not None
     return variable.value

@@ -89,10 +89,7 @@ class InterfaceTest(unittest.TestCase):
         self.assertEqual((machines.run.__module__, machines.Outcome.__module__), ("deedstore.machines",) * 2)
 
     def test_stepper(self):
-        found = inspect.signature(steppers.Stepper).parameters
-        plain, many, named = inspect.Parameter.POSITIONAL_OR_KEYWORD, inspect.Parameter.VAR_POSITIONAL, inspect.Parameter.KEYWORD_ONLY
-        self.assertEqual([part.kind for part in found.values()], [plain, plain, many, named])
-        self.assertEqual(list(found)[:2] + [found["most"].default], ["store", "procedure", 100000])
+        self.assertEqual(str(inspect.signature(steppers.Stepper)), "(store, procedure, *args, most=100000)")
         self.assertEqual(steppers.Stepper.__module__, "deedstore.steppers")
 
     def test_attributes_are_set_when_an_object_is_created(self):

@@ -2,9 +2,11 @@
 
 from deedstore.errors import Stale
 from deedstore.machines import run
+from deedstore.programs import stale
+from deedstore.steppers import Stepper
 from deedstore.stores import Store
 from tests.build import (
-    FALSE, TRUE, StoreTest, begun, block, do, function, handler, op, procedure, programs, put,
+    FALSE, NULL, TRUE, StoreTest, begun, block, do, function, handler, op, procedure, programs, put,
     raise_, set_, sets, table, trigger, unchanged, value, var, variable,
 )
 
@@ -210,3 +212,117 @@ class StaleTest(StoreTest):
         other = Store.of(T, *programs(procedure("p", do("q")), procedure("q")))
         other.begin()
         run(other, "p")
+
+
+class MadeAgainTest(StoreTest):
+    """A program that is made again in the middle of a call: by a procedure that others name by a text alone."""
+
+    # What q may become, and what is wrong then of a program that calls it with an int; or of q itself.
+    OTHERS = (
+        (None, ("name", "q"), None),
+        (procedure("q", params=(("k", "text", "in"),)), ("kind", "do"), None),
+        (procedure("q", params=(("k", "int", "out"),)), ("kind", "do"), None),
+        (procedure("q"), ("kind", "do"), None),
+        (function("q", ("return", value(1)), params=(("k", "int", "in"),)), ("name", "q"), None),
+        # True in the place of 1.
+        (procedure("q", set_("k", True), params=(("k", "int", "in"),)), None, ("kind", "set")),
+        (procedure("q", put("t", a=9), params=(("other", "int", "in"),)), None, None),
+    )
+    FIRST = procedure("q", set_("k", 1), params=(("k", "int", "in"),))
+    CALL = do("q", 5)
+
+    def bodies(self):
+        """Bodies of p that let r make q again, with the place at which p is looked at then, and that of its call of q."""
+        again = ("doby", value("r"), ())
+        yield (again, ("look",), self.CALL), (0, 2)
+        yield (block(again, ("look",), self.CALL),), (0, 0, 0, 2)
+        yield (("while", "l", TRUE, (again, self.CALL, ("leave", "l"))),), (0, 0, 0, 1)
+        yield (block(raise_("e"), handlers=(handler("e", again, self.CALL),)),), (0, 0, 1, 1)
+        yield (block(last=(again, self.CALL)),), (0, 0, 1, 1)
+        yield (block(again, handlers=(handler(""),), last=(self.CALL,)),), (0, 0, 2, 0)
+        yield (put("t"), ("each", None, "x", "t", TRUE, (again, self.CALL))), (0, 1, 0, 1)
+        yield (("if", ((TRUE, (again,)),), ()), put("t"), self.CALL), (0, 2)
+
+    def store(self, other, *body):
+        changes = [("drop", "q")] + [("make", other)] * (other is not None)
+        return begun(T, ("sequence", ("s", 1, 1)), *programs(
+            procedure("p", *body, variables=(variable("x", ("row", "t")),)), procedure("r", *changes), self.FIRST))
+
+    def check(self, store, told):
+        """p ends so, by run and by a stepper, in the same way."""
+        other = store.copy()
+        before = unchanged(store)
+        stepper = Stepper(other, "p")
+        while stepper.at is not None:
+            stepper.into()
+        if told is None:
+            self.assertEqual(run(store, "p").trace, stepper.outcome().trace)
+        else:
+            self.fails(Stale, told, run, store, "p")
+            self.fails(Stale, told, stepper.outcome)
+            self.assertEqual(unchanged(store)[:2], before[:2])
+            self.assertEqual(store.journal[-2:], (("undo", 0), ("free", 0)))
+        self.assertEqual(other.journal, store.journal)
+        self.assertTrue(other == store)
+        self.assertEqual(store.mark(), 0)
+
+    def test_in_the_middle_of_a_call(self):
+        for other, of_p, of_q in self.OTHERS:
+            for body, place in self.bodies():
+                store = self.store(other, *body)
+                self.assertEqual(stale(store), [])
+                self.check(store, ("p", place, of_p) if of_p else ("q", (0, 0), of_q) if of_q else None)
+
+    def test_and_back(self):
+        for other, _, _ in self.OTHERS[1:]:
+            for body, _ in self.bodies():
+                store = self.store(other, *body)
+                store.drop("r")
+                store.make(*programs(procedure("r", ("drop", "q"), ("make", other), ("drop", "q"), ("make", self.FIRST))))
+                self.check(store, None)
+                self.assertEqual(store.thing("q"), self.FIRST)
+
+    def test_what_a_guard_takes_back(self):
+        # Before the raise p is looked at as the catalogue is then; behind it q is the first one again.
+        for other, of_p, _ in self.OTHERS:
+            guard = block(("doby", value("r"), ()), raise_("e"), handlers=(handler("e", self.CALL),))
+            store = self.store(other, guard, self.CALL)
+            self.check(store, ("p", (0, 0, 1, 0), of_p) if of_p else None)
+            self.assertEqual(store.thing("q"), self.FIRST)
+
+    def test_in_a_trigger(self):
+        for other, of_g, of_q in self.OTHERS:
+            store = self.store(other, ("doby", value("r"), ()), put("t", a=("number", "s")))
+            store.make(*programs(trigger("g", "t", "after", "put", ("look",), ("if", ((op("<", 1, ("field", "new", "a")), ()),), (self.CALL,)))))
+            told = None
+            if of_g or of_q:
+                told = ("g", (0, 1, 1, 0), of_g) if of_g else ("q", (0, 0), of_q)
+            self.check(store, told)
+            # Of a statement that it leaves, the deeds of numbers stay.
+            self.assertEqual(("number", "s", 1) in store.journal, True)
+            self.assertEqual("put" in [deed[0] for deed in store.journal], told is None)
+
+    def test_in_a_function(self):
+        h = function("h", ("return", value(3)))
+        f = function("f", ("return", ("call", "h", ())))
+        for other, told in (
+            (function("h", ("return", NULL), kind="text"), ("f", (0, 0), ("kind", "return"))),
+            (function("h", ("return", value(1)), params=(("k", "int", "in"),)), ("f", (0, 0), ("kind", "return"))),
+            (function("h", ("return", TRUE)), ("h", (0, 0), ("kind", "return"))), (procedure("h"), ("f", (0, 0), ("name", "h"))),
+            (function("h", ("return", value(4))), None),
+        ):
+            changes = (("doby", value("r"), ()), put("t", a=("call", "f", ())))
+            store = begun(T, *programs(f, h, procedure("p", *changes), procedure("r", ("drop", "h"), ("make", other))))
+            self.check(store, told)
+            if told is None:
+                self.has_rows(store, "t", (4,))
+
+    def test_by_a_stepper(self):
+        # Nothing else can change the catalogue while it stands.
+        store = self.store(procedure("q"), ("doby", value("r"), ()), ("look",), self.CALL)
+        stepper = Stepper(store, "p")
+        stops = [stepper.at]
+        while stepper.at is not None:
+            stops.append(stepper.into())
+        self.assertEqual(stops, [("p", ()), ("p", (0, 0)), ("r", ()), ("r", (0, 0)), ("r", (0, 1)), None])
+        self.fails(Stale, ("p", (0, 2), ("kind", "do")), stepper.outcome)

@@ -383,8 +383,9 @@ class OutcomeTest(StepTest):
             self.assertEqual((outcome.results, outcome.history, outcome.trace), (wanted.results, wanted.history, wanted.trace))
         self.assertEqual(store.journal, other.journal)
         # It stays what it was, whatever the store does then.
+        store.put("t", ())
         run(store, "p", 8)
-        self.assertEqual(stepper.outcome().history, wanted.history)
+        self.assertEqual((stepper.outcome().history, stepper.outcome().trace), (wanted.history, wanted.trace))
 
     def test_a_signal(self):
         store = begun(("table", T), *programs(procedure("p", put("t"), raise_("e", 1), last=(put("t"),))))

@@ -1,13 +1,14 @@
 """Point 62: what a store was behind each commit, and the causes of its values."""
 
-from deedstore.errors import InTransaction, NoTransaction, Unknown
+from deedstore.errors import BadDeed, InTransaction, NoTransaction, Unknown
+from deedstore.histories import is_history, replayed
 from deedstore.logged import LoggedStore, LoggedTimedStore, TimedStore
 from deedstore.logs import checksum
 from deedstore.machines import run
 from deedstore.stores import Store
 from tests.build import (
     NULL, TRUE, StoreTest, block, col, column, equal, handler, plus, procedure, programs, put,
-    raise_, sets, table, view,
+    raise_, sets, table, variable, view,
 )
 
 T = table("t", "a", column("b", "text"))
@@ -63,6 +64,23 @@ class BehindTest(StoreTest):
         self.assertEqual((found.commits, store.commits), (3, 3))
         self.assertEqual(list(store.behind(2).rows("t")), [(0, (None, None))])
         self.assertEqual(list(store.rows("t")), [])
+
+    def test_cursors_and_histories_of_it(self):
+        variables = (variable("c", ("cursor", "t")), variable("r", ("row", "t")), variable("f", "truth"))
+        at = (("open", "c", "t", TRUE), ("fetch", "c", "r", "f"), ("fetch", "c", "r", "f"))
+        store = TimedStore.of(("table", T), *programs(
+            procedure("p", *at, ("changeat", "c", sets(b="x")), ("changeat", "c", sets(b="y")), variables=variables),
+            procedure("q", *at, ("change", "t", sets(b="z"), TRUE, None), ("changeat", "c", sets(b="x")), variables=variables)))
+        commit(store, ("put", "t", sets(a=1)), ("put", "t", sets(a=2)))
+        commit(store, ("take", "t", TRUE))
+        found = store.behind(2)
+        found.begin()
+        run(found, "p")
+        self.has_rows(found, "t", (1, None), (2, "y"))
+        self.assertEqual(self.raised(run, found, "q").word, "gone")
+        self.assertTrue(is_history(store.behind(2), found.journal, found))
+        self.fails(BadDeed, (0,), replayed, store.behind(2), (("put", "t", 1, (5, None)),))
+        self.assertEqual(replayed(store.behind(2), (("put", "t", 2, (5, None)),)).row("t", 2), (5, None))
 
     def test_the_word_of_a_sequence_that_was_a_thing_then(self):
         store = TimedStore.of(("table", T))
