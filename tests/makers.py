@@ -142,6 +142,16 @@ class StoreMaker(Maker):
         return function("f", first, ("return", plus(var("k"), 1)), params=(("k", "int", "in"),))
 
 
+class StaleMaker(StoreMaker):
+    """The same, with programs that name one that is dropped and made again."""
+
+    def simple(self):
+        r = self.random
+        other = r.choice((procedure("made"), procedure("made", params=(("k", "int", "in"),)), procedure("made", ("do", "zz", ()))))
+        again = [("make", other), ("drop", "made")]
+        return super().simple() + r.choice(([("do", "made", ())], [("doby", value("again"), ())], [])) + r.choice(([], again))
+
+
 class PlainMaker(Maker):
     """Makes programs without functions and triggers over one table, of which the column no tells the rows apart."""
 

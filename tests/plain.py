@@ -55,6 +55,9 @@ class Frame:
 class Plain:
     """Runs procedures over a table t whose column no tells its rows apart."""
 
+    # The frames before each statement, if they are to be noted.
+    noted = None
+
     def __init__(self, store):
         self.store = store
         self.trace = []
@@ -149,12 +152,21 @@ class Plain:
     def scope_of(self, word):
         return next(scope for scope in reversed(self.frames[-1].scopes) if word in scope)
 
+    def all_frames(self):
+        """The frames with the values of their variables, as point 53 tells them."""
+        return tuple((frame.word, frame.place, tuple(map(self.shown_values, frame.scopes))) for frame in self.frames)
+
+    def shown_values(self, scope):
+        return {word: x.kept is not None if isinstance(x, Cursor) else x for word, x in scope.items()}
+
     def statements(self, statements, place):
         for k, statement in enumerate(statements):
             self.statement(statement, (*place, k))
 
     def statement(self, tree, place):
         self.frames[-1].place = place
+        if self.noted is not None:
+            self.noted.append(self.all_frames())
         self.trace.append(("at", place))
         getattr(self, "do_" + tree[0])(tree, place)
 
@@ -195,10 +207,13 @@ class Plain:
 
     # Statements.
 
+    def null(self, kind):
+        return Cursor() if kind[0] == "cursor" else (None,) * 3 if kind[0] == "row" else None
+
     def do_block(self, tree, place):
         frame = self.frames[-1]
         _, label, variables, statements, handlers, last = tree
-        scope = {word: Cursor() if kind[0] == "cursor" else (None,) * 3 if kind[0] == "row" else None for word, kind, _ in variables}
+        scope = {word: self.null(kind) for word, kind, _ in variables}
         frame.scopes.append(scope)
         going = self.way_out(lambda: self.guarded(variables, statements, handlers, place, scope))
         if last:

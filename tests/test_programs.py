@@ -10,9 +10,8 @@ from deedstore.programs import fault, stale
 from deedstore.stores import Store
 from deedstore.trees import is_bounded, read_tree, write_tree
 from tests.build import (
-    FALSE, NULL, TRUE, StoreTest, begun, block, col, column, do, equal, function, handler, plus,
-    procedure, programs, put, raise_, set_, sets, table, trigger, unchanged, value, var, variable,
-    view,
+    FALSE, NULL, TRUE, StoreTest, begun, block, col, column, do, function, handler, plus, procedure,
+    programs, put, raise_, set_, table, trigger, unchanged, value, var, variable, view,
 )
 from tests.helpers import nested, same
 from tests.makers import VARIABLES, StoreMaker

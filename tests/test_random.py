@@ -28,11 +28,13 @@ class HistoryTest(unittest.TestCase):
     """The history of a call makes the store behind it, and the log the store behind the commit."""
 
     def store(self, seed):
-        maker = StoreMaker(seed)
+        return LoggedTimedStore.of(*self.things(StoreMaker(seed)))
+
+    def things(self, maker):
         calls = ("if", ((op("<", ("count", "t", TRUE), 15), maker.statements(2)),), ())
         event = maker.random.choice(("put", "change", "take"))
         p = maker.bounded(lambda: procedure("p", *maker.statements(3), *maker.statements(3), variables=VARIABLES))
-        return LoggedTimedStore.of(*maker.THINGS, *programs(
+        return (*maker.THINGS, *programs(
             p, procedure("q", *maker.statements(2), variables=VARIABLES, last=maker.statements(1)), maker.function(),
             trigger("g", "t", "after", event, calls, variables=VARIABLES),
             trigger("h", "u", "before", "put", ("if", ((equal(("field", "new", "of"), 3), (("skip",),)),), ()),

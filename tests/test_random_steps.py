@@ -7,9 +7,11 @@ from deedstore.histories import is_history, replayed
 from deedstore.steppers import Stepper
 from tests.build import begun, programs
 from tests.makers import PlainMaker
-from tests.plain import Cursor, Plain
+from tests.plain import Plain
+from tests.plain_store import Whole
 from tests import test_random
 from tests.test_random import outcome_of
+from tests.test_random_whole import stale_store
 
 
 def stops_of(trace):
@@ -138,35 +140,42 @@ class StepTest(unittest.TestCase):
                 self.assertEqual(again.mark(), 0)
 
 
-class Watching(Plain):
-    """Notes the frames before each statement."""
-
-    def statement(self, tree, place):
-        self.frames[-1].place = place
-        self.__dict__.setdefault("noted", []).append(tuple(
-            (frame.word, frame.place, tuple({word: self.shown(scope[word]) for word in scope} for scope in frame.scopes))
-            for frame in self.frames))
-        super().statement(tree, place)
-
-    def shown(self, value):
-        return value.kept is not None if isinstance(value, Cursor) else value
-
-
 class FrameTest(unittest.TestCase):
     """Frames are what a plain reading of the document says, with the values of all variables."""
 
-    def test_frames(self):
+    def frames(self, stepper):
+        found = []
+        while stepper.at is not None:
+            found.append(stepper.frames)
+            stepper.into()
+        return found
+
+    def test_procedures(self):
         deepest = 0
         for seed in range(200):
             maker = PlainMaker(seed)
             store = begun(*maker.THINGS, *programs(*maker.programs()))
-            watching = Watching(store.copy())
-            watching.call("p")
-            stepper = Stepper(store, "p", most=5000)
-            found = []
-            while stepper.at is not None:
-                found.append(stepper.frames)
-                stepper.into()
-            self.assertEqual(found, watching.noted, seed)
+            plain = Plain(store.copy())
+            plain.noted = []
+            plain.call("p")
+            found = self.frames(Stepper(store, "p", most=5000))
+            self.assertEqual(found, plain.noted, seed)
             deepest = max(deepest, *[len(frame[2]) for frames in found for frame in frames])
         self.assertGreater(deepest, 4)
+
+    def test_functions_and_triggers(self):
+        stales = longest = 0
+        for seed in range(200):
+            store = stale_store(seed) if seed < 100 else test_random.HistoryTest().store(seed)
+            store.begin()
+            whole = Whole(store, 300)
+            for word in "qpp":
+                whole.noted = []
+                ended = whole.call(word)
+                found = self.frames(Stepper(store, word, most=300))
+                # Where a program is found stale, no statement comes next.
+                self.assertEqual(found, whole.noted, seed)
+                stales += ended[0] == "stale" and len(found) > 1
+                longest = max([longest] + [len(frames) for frames in found])
+        self.assertGreater(stales, 3)
+        self.assertGreater(longest, 4)
